@@ -1,0 +1,1 @@
+"""What everything else stands on: words, webs and rings."""

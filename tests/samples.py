@@ -1,0 +1,74 @@
+"""Webs and values that several tests use, and plain oracles to hold the program against."""
+
+from itertools import permutations
+
+from owedround.base.webs import Web, full_web
+
+RING = Web.from_lines("tie a b", "tie a c", "tie b c")
+KITE = Web.from_lines("tie a b", "tie a c", "tie b c", "tie b d", "tie c d")
+FOUR = Web.from_lines("tie a b", "tie a c", "tie a d", "tie b c", "tie b d", "tie c d")
+PAIR = Web.from_lines("tie a b")
+TAIL = KITE.with_place("e", "d")
+LINE = Web.from_lines("tie a b", "tie b c", "tie c d")
+DUMBBELL = Web.from_lines(
+    "tie a b", "tie a c", "tie b c", "tie c d", "tie d e", "tie d f", "tie e f"
+)
+SIX = full_web(("a", "b", "c", "d", "e", "f"))
+NINE = Web.of_ties(*[(a, b) for a, b in zip("abcdefgh", "bcdefghi")])
+# Nine places and eighteen ties: each place is tied to the two next ones round a ring.
+FULLEST = Web.of_ties(
+    *[tuple(sorted(("abcdefghi"[k], "abcdefghi"[(k + step) % 9]))) for k in range(9) for step in (1, 2)]
+)
+WEBS = (RING, KITE, FOUR, PAIR, TAIL, LINE, DUMBBELL, SIX, NINE, FULLEST)
+
+# Values that are neither a name nor a tie nor a web nor an integer.
+STRANGE = (
+    None,
+    True,
+    False,
+    10 ** 60,
+    -(10 ** 99),
+    "",
+    "A",
+    "a b",
+    "abcdefghi",
+    "a1",
+    "a\n",
+    "x" * 4000,
+    (),
+    [],
+    {},
+    ("a",),
+    ["a", "b"],
+    ("a", ["b"]),
+    ("a", 1),
+    ("b", "a"),
+    ("a", "a"),
+    ("a", "b", "c", 1),
+    (("a", "b"),),
+    {"a": "b"},
+    {(): [{}]},
+    ["a", [{"b": [(("c", {}),)]}]],
+)
+ALL_STRANGE = STRANGE + (RING, (RING, KITE), [FOUR], {"a": RING})
+
+
+def joined(places, ties):
+    """Whether places hang together along ties, by painting them again and again."""
+    found = set(places[:1])
+    for _ in places:
+        for a, b in ties:
+            if a in found or b in found:
+                found |= {a, b}
+    return bool(places) and found == set(places)
+
+
+def rings_by_trial(web):
+    """All rings from their least places on, found by trying all orders of all places."""
+    tied = {(a, b) for a, b in web.ties} | {(b, a) for a, b in web.ties}
+    found = []
+    for many in range(3, len(web.places) + 1):
+        for way in permutations(web.places, many):
+            if way[0] == min(way) and all(pair in tied for pair in zip(way, way[1:] + way[:1])):
+                found.append(way)
+    return sorted(found)
