@@ -2,7 +2,9 @@
 
 from itertools import permutations
 
+from owedround.base.tables import Table
 from owedround.base.webs import Web, full_web
+from owedround.owe.debts import Debts
 
 RING = Web.from_lines("tie a b", "tie a c", "tie b c")
 KITE = Web.from_lines("tie a b", "tie a c", "tie b c", "tie b d", "tie c d")
@@ -20,8 +22,16 @@ FULLEST = Web.of_ties(
     *[tuple(sorted(("abcdefghi"[k], "abcdefghi"[(k + step) % 9]))) for k in range(9) for step in (1, 2)]
 )
 WEBS = (RING, KITE, FOUR, PAIR, TAIL, LINE, DUMBBELL, SIX, NINE, FULLEST)
+SMALL = (PAIR, RING, KITE, FOUR, TAIL, LINE, DUMBBELL)
+# Names whose order is not that of their lengths, and a place in the middle of all ties.
+ODD = Web.from_lines("tie ab b", "tie a ab", "tie ab z", "tie a b", "tie abc z", "tie ab abc")
 
-# Values that are neither a name nor a tie nor a web nor an integer.
+FLAT = Table.from_lines("a: b c", "b: a c d", "c: a d b", "d: b c")
+TWIST = Table.from_lines("a: b c", "b: a c d", "c: a b d", "d: b c")
+STAR = Table.from_lines("a: b d c", "b: a c d", "c: a d b", "d: a b c")
+TABLES = (FLAT, TWIST, STAR) + tuple(Table.plain(web) for web in WEBS + (ODD,))
+
+# Values that are neither a name nor a tie nor a web nor an integer, nor anything else of this package.
 STRANGE = (
     None,
     True,
@@ -51,6 +61,8 @@ STRANGE = (
     ["a", [{"b": [(("c", {}),)]}]],
 )
 ALL_STRANGE = STRANGE + (RING, (RING, KITE), [FOUR], {"a": RING})
+# These are no places of the webs here, whatever else they are.
+NO_PLACES = ALL_STRANGE + ("zz", "A", 0, FLAT, Debts.none(KITE))
 
 
 def joined(places, ties):

@@ -1,12 +1,14 @@
 """The examples of the document, word for word."""
 
 import doctest
+import importlib
 import unittest
 
-from owedround.base import rings, webs, words
-from samples import FOUR, KITE, RING
+import samples
 
-MODULES = (words, webs, rings)
+MODULES = (
+    "base.words", "base.webs", "base.rings", "base.tables", "owe.debts", "owe.burning", "tree.joining",
+)
 
 WORDS = '''
 >>> [is_integer(-7), is_count(True), is_name("ab1"), are_names(()), are_names(("b", "a", "b")), is_naming(("a", "b"), {"a": "b", "b": "a"})]
@@ -30,26 +32,91 @@ RINGS = '''
 [True, False, ('a', 'c', 'b'), (('a', 'b'), ('a', 'c'), ('b', 'c')), 6, [('a', 'b', 'c'), ('a', 'b', 'd', 'c'), ('a', 'c', 'b')]]
 '''
 
+TABLES = '''
+>>> [FLAT.rims, FLAT.lack, TWIST.lack, len(TWIST), FLAT.behind("c", "a"), FLAT.ahead("c", "a"), FLAT.rim_along("b", "a")]
+[(('a', 'b', 'c'), ('a', 'c', 'd', 'b'), ('b', 'd', 'c')), 0, 2, 1, 'd', 'b', ('a', 'c', 'd', 'b')]
+>>> [TWIST.rims, str(FLAT), FLAT.mirror.lines, FLAT.with_round("c", ("a", "b", "d")) == TWIST, count_tables(KITE)]
+[(('a', 'b', 'c', 'd', 'b', 'a', 'c', 'b', 'd', 'c'),), 'table of 4 places, 5 ties, 3 rims', ('a: b c', 'b: a d c', 'c: a b d', 'd: b c'), True, 4]
+>>> [FLAT.with_tie("a", "b", "d", "c").lack, FLAT.with_tie("a", "c", "d", "c").lack, FLAT.without_tie("b", "c").lines]
+[0, 2, ('a: b c', 'b: a d', 'c: a d', 'd: b c')]
+>>> [sides_of(FLAT, ("a", "b", "c")), ties_within_sides(FLAT, ("b", "c", "a")), sides_of(FLAT, ("c", "b", "a"))[1]]
+[((('a', 'b', 'c'),), (('a', 'c', 'd', 'b'), ('b', 'd', 'c'))), ((), (('b', 'd'), ('c', 'd'))), (('a', 'b', 'c'),)]
+'''
+
+DEBTS = '''
+>>> some = Debts(KITE, {"a": 2, "b": -1, "c": 0, "d": 0})
+>>> [some.total, some.owing, some.lines, some.lent("a").amounts, some.lent_together(("a", "c")).lines, some.moved("a", "d", many=2).lines, str(some)]
+[1, ('b',), ('a has 2', 'b owes 1'), {'a': 0, 'b': 0, 'c': 1, 'd': 0}, ('a has 1', 'b has 1', 'c owes 2', 'd has 1'), ('b owes 1', 'd has 2'), 'debts of 4 places, total 1, 1 owing']
+>>> other = Debts.from_lines(KITE, "c has 1")
+>>> [are_alike(some, other), plan_between(some, other), plan_between(other, some), are_alike(other, Debts.at(KITE, "a")), some.after({"a": 3, "b": 2, "c": 2, "d": 2}) == other]
+[True, {'a': 1, 'b': 0, 'c': 0, 'd': 0}, {'a': 0, 'b': 1, 'c': 1, 'd': 1}, False, True]
+>>> [(some - other).lines, (2 * some).amounts["a"], (-some).is_free, "b owes 1" in some, plain_plan(KITE, {"a": -1, "b": 0, "c": 0, "d": 4}), joined_plans(KITE)]
+[('a has 2', 'b owes 1', 'c owes 1'), 4, False, True, {'a': 0, 'b': 1, 'c': 1, 'd': 5}, {'a': 0, 'b': 0, 'c': 0, 'd': 0}]
+'''
+
+BURNING = '''
+>>> have = Debts.from_lines(KITE, "a owes 1", "b has 2", "c has 2")
+>>> [lending_set(have, "a"), reduced(have, "a").lines, plan_to_reduced(have, "a"), reduced(have, "d").lines, can_be_free(have)]
+[('b', 'c', 'd'), ('a has 3',), {'a': 0, 'b': 2, 'c': 2, 'd': 2}, ('a has 1', 'd has 2'), True]
+>>> lent = Debts.from_lines(KITE, "b has 1", "d owes 1")
+>>> [is_reduced(lent, "d"), lending_set(lent, "d"), is_burning_order(lent, "d", ("d", "c", "a", "b")), is_burning_order(lent, "d", ("d", "b", "c", "a")), can_be_free(lent)]
+[True, (), True, False, False]
+>>> [is_reduced(have, "a"), burning_order(have, "a"), is_reduced(have, "d"), [(one["b"], one["c"], one["d"]) for one in each_reduced(KITE, "a", 0)]]
+[False, None, False, [(0, 0, 0), (0, 0, 1), (0, 1, 0), (0, 1, 1), (0, 2, 0), (1, 0, 0), (1, 0, 1), (2, 0, 0)]]
+'''
+
+JOINING = '''
+>>> TREE = (("a", "b"), ("a", "c"), ("b", "d"))
+>>> [is_joining_tree(KITE, TREE), is_joining_tree(KITE, (("a", "b"), ("a", "c"), ("b", "c"))), is_joining_tree(KITE, TREE[::-1]), count_trees(KITE), count_trees(FOUR), count_trees(RING)]
+[True, False, False, 8, 16, 3]
+>>> list(each_tree(KITE))[:3]
+[(('a', 'b'), ('a', 'c'), ('b', 'd')), (('a', 'b'), ('a', 'c'), ('c', 'd')), (('a', 'b'), ('b', 'c'), ('b', 'd'))]
+>>> [way_in(KITE, TREE, "c", "d"), ring_closed(KITE, TREE, ("c", "d")), ring_closed(KITE, TREE, ("b", "c")), cut_closed(KITE, TREE, ("a", "b")), side_of(KITE, TREE, ("a", "b"), "c")]
+[('c', 'a', 'b', 'd'), ('a', 'b', 'd', 'c'), ('a', 'b', 'c'), (('a', 'b'), ('b', 'c'), ('c', 'd')), ('a', 'c')]
+>>> [exchanged(KITE, TREE, ("a", "b"), ("c", "d")), hands_of(KITE, TREE, "d"), tree_of_hands(KITE, "d", {"a": "b", "b": "d", "c": "a"}) == TREE, is_hands(KITE, "d", {"a": "c", "b": "d", "c": "a"})]
+[(('a', 'c'), ('b', 'd'), ('c', 'd')), {'a': 'b', 'b': 'd', 'c': 'a'}, True, False]
+'''
+
 
 class Examples(unittest.TestCase):
-    def check(self, name, text):
-        known = {"RING": RING, "KITE": KITE, "FOUR": FOUR}
-        for module in MODULES:
+    def known(self):
+        """What the examples may name: the webs and tables of the document, and all that the modules have."""
+        known = {name: getattr(samples, name) for name in ("RING", "KITE", "FOUR", "FLAT", "TWIST", "STAR")}
+        for name in MODULES:
+            module = importlib.import_module("owedround." + name)
             known.update({word: getattr(module, word) for word in dir(module) if word[0] != "_"})
-        test = doctest.DocTestParser().get_doctest(text, known, name, None, 0)
+        return known
+
+    def check(self, text):
+        # The document tells an error by its name alone.
+        told = text.replace("\nraises ", "\nTraceback (most recent call last):\n    ...\n")
+        test = doctest.DocTestParser().get_doctest(told, self.known(), "document", None, 0)
         said = []
-        result = doctest.DocTestRunner(verbose=False).run(test, out=said.append)
-        self.assertGreater(result.attempted, 0)
+        runner = doctest.DocTestRunner(verbose=False, optionflags=doctest.IGNORE_EXCEPTION_DETAIL)
+        result = runner.run(test, out=said.append)
+        self.assertEqual(result.attempted, text.count("\n>>> "))
         self.assertEqual(result.failed, 0, "".join(said))
 
     def test_words(self):
-        self.check("words", WORDS)
+        self.check(WORDS)
 
     def test_webs(self):
-        self.check("webs", WEBS)
+        self.check(WEBS)
 
     def test_rings(self):
-        self.check("rings", RINGS)
+        self.check(RINGS)
+
+    def test_tables(self):
+        self.check(TABLES)
+
+    def test_debts(self):
+        self.check(DEBTS)
+
+    def test_burning(self):
+        self.check(BURNING)
+
+    def test_joining(self):
+        self.check(JOINING)
 
 
 if __name__ == "__main__":

@@ -21,6 +21,16 @@ BUILTINS = set(
     "OverflowError RuntimeError NotImplemented".split()
 )
 EAGER = {"any", "all", "min", "max", "sum", "sorted"}
+METHODS = set(
+    "append clear copy count endswith extend find get index insert isalnum isalpha isdigit islower isspace "
+    "isupper items join keys ljust lower lstrip partition pop remove replace reverse rfind rjust rpartition "
+    "rsplit rstrip setdefault split splitlines startswith strip update upper values zfill bit_length "
+    "add discard".split()
+)
+NO_WORDS = set(
+    "type typing enum Enum Flag Generic Protocol ABC namedtuple NamedTuple TypedDict dataclass "
+    "register mro elements open input law eval exec exit globals locals vars dir id super".split()
+)
 
 
 def files():
@@ -36,6 +46,11 @@ def files():
 def text_of(path):
     with open(path, encoding="utf-8") as told:
         return told.read()
+
+
+def is_builtin(name):
+    """Whether Python itself has the name; what doctest leaves behind does not count."""
+    return name != "_" and hasattr(builtins, name)
 
 
 class Form(unittest.TestCase):
@@ -70,7 +85,7 @@ class Form(unittest.TestCase):
 
     def test_builtins(self):
         for path, node in self.each_node(ast.Name):
-            if hasattr(builtins, node.id):
+            if is_builtin(node.id):
                 self.assertIn(node.id, BUILTINS, (path, node.lineno))
 
     def test_nothing_of_a_barred_kind(self):
@@ -83,6 +98,70 @@ class Form(unittest.TestCase):
             if isinstance(node.func, ast.Name) and node.func.id in EAGER:
                 for one in node.args:
                     self.assertNotIsInstance(one, ast.GeneratorExp, (path, node.lineno))
+
+    def test_methods_of_builtin_values(self):
+        own = {node.name for _, node in self.each_node(ast.FunctionDef)}
+        for path, node in self.each_node(ast.Call):
+            if isinstance(node.func, ast.Attribute):
+                self.assertIn(node.func.attr, METHODS | own, (path, node.lineno))
+
+    def test_no_name_is_bound_over_another_one(self):
+        for path in files():
+            tree = ast.parse(text_of(path))
+            above = {one.name for node in tree.body if isinstance(node, ast.ImportFrom) for one in node.names}
+            above |= {node.name for node in tree.body if isinstance(node, ast.ClassDef)}
+            bound = [one.arg for one in ast.walk(tree) if isinstance(one, ast.arg)]
+            bound += [one.id for one in ast.walk(tree) if isinstance(one, ast.Name) and isinstance(one.ctx, ast.Store)]
+            for name in bound:
+                self.assertNotIn(name, above, path)
+                self.assertFalse(is_builtin(name), (path, name))
+
+    def test_names_are_bound_once_in_a_file(self):
+        for path in files():
+            bound = []
+            for node in ast.parse(text_of(path)).body:
+                if isinstance(node, ast.ImportFrom):
+                    bound += [one.name for one in node.names]
+                elif isinstance(node, (ast.ClassDef, ast.FunctionDef)):
+                    bound.append(node.name)
+            self.assertEqual(len(bound), len(set(bound)), path)
+
+    def test_generators_are_iterated_at_once(self):
+        made = [node for _, node in self.each_node(ast.FunctionDef)]
+        generators = {node.name for node in made if any(isinstance(one, ast.Yield) for one in ast.walk(node))}
+        used, fitting = 0, 0
+        for _, node in self.each_node(ast.Name, ast.For, ast.comprehension, ast.YieldFrom, ast.Call):
+            used += isinstance(node, ast.Name) and node.id in generators
+            told = [getattr(node, "iter", None), getattr(node, "value", None)]
+            if isinstance(node, ast.Call) and isinstance(node.func, ast.Name) and node.func.id in ("list", "tuple"):
+                told = node.args
+            for one in told:
+                if isinstance(one, ast.Call) and isinstance(one.func, ast.Name):
+                    fitting += one.func.id in generators
+        self.assertEqual(used, fitting)
+
+    def test_barred_words_and_signs(self):
+        for path, node in self.each_node(ast.Name, ast.Attribute, ast.Constant):
+            if isinstance(node, ast.Name):
+                self.assertNotIn(node.id, NO_WORDS, (path, node.lineno))
+            elif isinstance(node, ast.Attribute):
+                self.assertNotIn(node.attr, NO_WORDS, (path, node.lineno))
+            elif isinstance(node.value, str):
+                self.assertNotIn(chr(37), node.value, (path, node.lineno))
+            else:
+                self.assertNotIsInstance(node.value, (float, complex), (path, node.lineno))
+
+    def test_no_two_files_import_from_each_other(self):
+        needs = {}
+        for path in files():
+            name = "owedround." + os.path.relpath(path, TOP)[:-3].replace(os.sep, ".")
+            nodes = [node for node in ast.parse(text_of(path)).body if isinstance(node, ast.ImportFrom)]
+            needs[name] = {node.module for node in nodes if node.module.startswith("owedround")}
+        while needs:
+            free = [name for name, told in needs.items() if not told & set(needs)]
+            self.assertTrue(free, needs)
+            for name in free:
+                del needs[name]
 
 
 if __name__ == "__main__":

@@ -1,78 +1,99 @@
 """The opening of the interface: each name exists as written, in the file that lists it."""
 
+import importlib
 import inspect
 import unittest
 
-from owedround.base import rings, webs, words
-from samples import KITE
+from samples import FLAT, KITE
+from owedround.owe.debts import Debts
 
-FUNCTIONS = (
-    (words, "is_integer", ("value",)),
-    (words, "is_count", ("value",)),
-    (words, "is_name", ("value",)),
-    (words, "are_names", ("value",)),
-    (words, "is_naming", ("names", "value")),
-    (words, "is_fraction", ("value",)),
-    (words, "fraction", ("top", "bottom")),
-    (words, "part_of_one", ("fraction",)),
-    (webs, "full_web", ("places",)),
-    (webs, "ring_web", ("ring",)),
-    (rings, "is_ring", ("web", "value")),
-    (rings, "turned_least", ("ring",)),
-    (rings, "ring_ties", ("ring",)),
-    (rings, "each_ring", ("web",)),
+# What each module lists: the functions and classes with their parameters, and the constants.
+MODULES = {
+    "base.words": """
+        is_integer(value) is_count(value) is_name(value) are_names(value) is_naming(names, value)
+        is_fraction(value) fraction(top, bottom) part_of_one(fraction)""",
+    "base.webs": "Web(places, ties) full_web(places) ring_web(ring)",
+    "base.rings": "is_ring(web, value) turned_least(ring) ring_ties(ring) each_ring(web)",
+    "base.tables": """
+        Table(web, rounds) is_table(web, value) count_tables(web) each_table(web) sides_of(table, ring)
+        ties_within_sides(table, ring)""",
+    "owe.debts": """
+        Debts(web, amounts) is_plan(web, value) plain_plan(web, plan) joined_plans(web, *plans)
+        are_alike(one, other) plan_between(one, other)""",
+    "owe.burning": """
+        reduced(debts, place) is_reduced(debts, place) plan_to_reduced(debts, place) can_be_free(debts)
+        lending_set(debts, place) burning_order(debts, place) is_burning_order(debts, place, value)
+        each_reduced(web, place, total)""",
+    "tree.joining": """
+        is_joining_tree(web, value) count_trees(web) each_tree(web) way_in(web, tree, a, b)
+        ring_closed(web, tree, tie) cut_closed(web, tree, tie) side_of(web, tree, tie, place)
+        exchanged(web, tree, out, new) hands_of(web, tree, home) is_hands(web, home, value)
+        tree_of_hands(web, home, hands)""",
+}
+CONSTANTS = {"base.words": {"MAX_LETTERS": 8, "MAX_FIGURES": 60}, "base.webs": {"MAX_PLACES": 9, "MAX_TIES": 18}}
+GENERATORS = ("each_ring", "each_table", "each_reduced", "each_tree")
+# An object of each class, its class methods, properties, methods and operators.
+CLASSES = (
+    (KITE, "from_lines(*lines) of_ties(*ties)", "places ties lines spare bridges", """
+        neighbours(place) ties_at(place) is_tied(a, b) hangs(places) ties_within(places) ties_across(places)
+        with_tie(a, b) without_tie(a, b) with_place(name, neighbour) renamed(names)""",
+     "init contains len iter eq str"),
+    (FLAT, "from_lines(*lines) plain(web)", "web rounds rims lack is_drawing lines mirror", """
+        round_at(place) behind(place, neighbour) ahead(place, neighbour) rim_along(place, neighbour)
+        with_round(place, row) with_tie(a, x, b, y) without_tie(a, b) renamed(names)""",
+     "init contains len iter eq str"),
+    (Debts.none(KITE), "none(web) at(web, *places) from_lines(web, *lines)", "web amounts total owing is_free lines", """
+        lent(place, *, many=1) lent_together(places) moved(giver, taker, *, many=1) after(plan) renamed(names)""",
+     "init contains len iter eq str getitem add sub neg mul rmul"),
 )
-METHODS = (
-    ("neighbours", ("place",)),
-    ("ties_at", ("place",)),
-    ("is_tied", ("a", "b")),
-    ("hangs", ("places",)),
-    ("ties_within", ("places",)),
-    ("ties_across", ("places",)),
-    ("with_tie", ("a", "b")),
-    ("without_tie", ("a", "b")),
-    ("with_place", ("name", "neighbour")),
-    ("renamed", ("names",)),
-)
-OPERATORS = ("__init__", "__contains__", "__len__", "__iter__", "__eq__", "__str__")
 
 
-def parameters(function):
-    return tuple(inspect.signature(function).parameters)
+def split(text):
+    """The pairs of a name and its parameters, with their parentheses."""
+    told = " ".join(text.split()).replace(") ", ")\n").split("\n")
+    return [(one[:one.index("(")], one[one.index("("):]) for one in told]
 
 
 class Interface(unittest.TestCase):
-    def test_functions(self):
-        for module, name, told in FUNCTIONS:
-            function = getattr(module, name)
-            self.assertTrue(inspect.isfunction(function), name)
-            self.assertEqual(function.__module__, module.__name__, name)
-            self.assertEqual(parameters(function), told, name)
+    def module(self, name):
+        return importlib.import_module("owedround." + name)
 
-    def test_each_ring_is_a_generator(self):
-        self.assertTrue(inspect.isgeneratorfunction(rings.each_ring))
+    def test_functions_and_classes(self):
+        for module, text in MODULES.items():
+            for name, told in split(text):
+                made = vars(self.module(module))[name]
+                self.assertEqual(made.__module__, "owedround." + module, name)
+                self.assertEqual(str(inspect.signature(made)), told, name)
+                self.assertEqual(inspect.isclass(made), name[0].isupper())
+                self.assertEqual(inspect.isgeneratorfunction(made), name in GENERATORS)
 
-    def test_the_class_of_webs(self):
-        self.assertEqual(webs.Web.__module__, "owedround.base.webs")
-        self.assertEqual(parameters(webs.Web), ("places", "ties"))
-        for name in OPERATORS:
-            self.assertIn(name, vars(webs.Web))
+    def test_constants(self):
+        for module, told in CONSTANTS.items():
+            for name, value in told.items():
+                self.assertEqual(vars(self.module(module))[name], value)
 
-    def test_methods_of_webs(self):
-        for name, told in METHODS:
-            self.assertTrue(inspect.isfunction(vars(webs.Web)[name]), name)
-            self.assertEqual(parameters(getattr(KITE, name)), told, name)
+    def test_class_methods(self):
+        for one, class_methods, _, _, _ in CLASSES:
+            for name, told in split(class_methods):
+                self.assertIsInstance(vars(one.__class__)[name], classmethod)
+                self.assertEqual(str(inspect.signature(getattr(one.__class__, name))), told, name)
 
-    def test_class_methods_of_webs(self):
-        for name, rest in (("from_lines", "lines"), ("of_ties", "ties")):
-            self.assertIsInstance(vars(webs.Web)[name], classmethod)
-            told = inspect.signature(getattr(webs.Web, name)).parameters
-            self.assertEqual([(one.name, one.kind) for one in told.values()],
-                             [(rest, inspect.Parameter.VAR_POSITIONAL)])
+    def test_properties(self):
+        for one, _, properties, _, _ in CLASSES:
+            for name in properties.split():
+                self.assertIsInstance(vars(one.__class__)[name], property)
+                getattr(one, name)
 
-    def test_properties_of_webs(self):
-        for name in ("places", "ties", "lines", "spare", "bridges"):
-            self.assertIsInstance(vars(webs.Web)[name], property)
+    def test_methods(self):
+        for one, _, _, methods, _ in CLASSES:
+            for name, told in split(methods):
+                self.assertTrue(inspect.isfunction(vars(one.__class__)[name]), name)
+                self.assertEqual(str(inspect.signature(getattr(one, name))), told, name)
+
+    def test_operators(self):
+        for one, _, _, _, operators in CLASSES:
+            for name in operators.split():
+                self.assertIn("__" + name + "__", vars(one.__class__))
 
 
 if __name__ == "__main__":

@@ -4,30 +4,15 @@ import unittest
 from itertools import combinations
 
 from owedround.base.webs import Web
-from owedround.errors import InvalidOperation, InvalidPlace, InvalidTie, TooMany, UnknownName
+from owedround.errors import InvalidOperation, InvalidPlace, InvalidTie, UnknownName
+from cases import ErrorCase
 from samples import ALL_STRANGE, DUMBBELL, FOUR, FULLEST, KITE, LINE, NINE, PAIR, RING, SIX, TAIL
 from samples import WEBS, joined
 
 AB, AC, BC, BD, CD = ("a", "b"), ("a", "c"), ("b", "c"), ("b", "d"), ("c", "d")
 
 
-class MethodCase(unittest.TestCase):
-    def unknown(self, word, call, *values):
-        with self.assertRaises(UnknownName) as caught:
-            call(*values)
-        self.assertIs(caught.exception.word, word)
-
-    def too_many(self, limit, call, *values):
-        with self.assertRaises(TooMany) as caught:
-            call(*values)
-        self.assertEqual(caught.exception.limit, limit)
-
-    def refused(self, error, call, *values):
-        with self.assertRaises(error):
-            call(*values)
-
-
-class Looking(MethodCase):
+class Looking(ErrorCase):
     def test_neighbours(self):
         told = [KITE.neighbours(place) for place in KITE.places]
         self.assertEqual(told, [("b", "c"), ("a", "c", "d"), ("a", "b", "d"), ("b", "c")])
@@ -62,7 +47,7 @@ class Looking(MethodCase):
             self.unknown(wrong, KITE.is_tied, wrong, "zz")
 
 
-class Sets(MethodCase):
+class Sets(ErrorCase):
     def test_every_set_of_every_web(self):
         for web in (RING, KITE, FOUR, PAIR, TAIL, LINE, DUMBBELL):
             for many in range(len(web) + 1):
@@ -98,7 +83,7 @@ class Sets(MethodCase):
                 self.refused(InvalidOperation, call, value)
 
 
-class Ties(MethodCase):
+class Ties(ErrorCase):
     def test_a_tie_more(self):
         self.assertEqual(KITE.with_tie("a", "d"), FOUR)
         self.assertEqual(KITE.with_tie("d", "a"), FOUR)
@@ -146,7 +131,7 @@ class Ties(MethodCase):
         self.refused(InvalidOperation, PAIR.without_tie, "a", "b")
 
 
-class Places(MethodCase):
+class Places(ErrorCase):
     def test_a_place_more(self):
         self.assertEqual(TAIL.places, ("a", "b", "c", "d", "e"))
         self.assertEqual(TAIL.ties, (AB, AC, BC, BD, CD, ("d", "e")))
@@ -181,7 +166,7 @@ class Places(MethodCase):
             self.unknown(wrong, FULLEST.with_place, "x", wrong)
 
 
-class Renaming(MethodCase):
+class Renaming(ErrorCase):
     def test_other_names(self):
         web = KITE.renamed({"a": "z", "b": "b", "c": "a", "d": "dog"})
         self.assertEqual(web.places, ("a", "b", "dog", "z"))

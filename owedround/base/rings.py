@@ -1,6 +1,6 @@
 """Rings of a web: walks that come back to where they begin."""
 
-from owedround.base.webs import need_web, tie_of
+from owedround.base.webs import need_web, steps_round, tie_of
 from owedround.base.words import are_names
 from owedround.errors import InvalidRing
 
@@ -14,14 +14,13 @@ def is_ring(web, value):
 def turned_least(ring):
     """The same ring in the same direction, from its least place on."""
     _need_round(ring)
-    at = ring.index(min(ring))
-    return ring[at:] + ring[:at]
+    return least_rotation(ring)
 
 
 def ring_ties(ring):
     """The ascending tuple of the ties between neighbours in a ring."""
     _need_round(ring)
-    return tuple(sorted([tie_of(a, b) for a, b in zip(ring, ring[1:] + ring[:1])]))
+    return tuple(sorted([tie_of(a, b) for a, b in steps_round(ring)]))
 
 
 def each_ring(web):
@@ -37,6 +36,11 @@ def each_ring(web):
         for place in near[::-1]:
             if place > way[0] and place not in way:
                 ways.append(way + (place,))
+
+
+def least_rotation(row):
+    """The least one of the tuples that tell the same round from some item on."""
+    return min([row[at:] + row[:at] for at in range(len(row))])
 
 
 def _is_round(value):

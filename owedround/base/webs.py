@@ -147,11 +147,8 @@ class Web:
 
     def _need_set(self, places):
         """Refuses what is no ascending tuple of places."""
-        if not isinstance(places, tuple) or not all([place in self._places for place in places]):
-            raise InvalidOperation("this is no tuple of places")
-        # Only here are all of them strings, which can be compared.
-        if not ascends(places):
-            raise InvalidOperation("these places do not ascend")
+        if not is_place_set(self, places):
+            raise InvalidOperation("this is no ascending tuple of places")
 
     def _ties_but(self, tie):
         """The ties but one."""
@@ -173,7 +170,7 @@ def ring_web(ring):
     """The web in which each of these places is tied to the next one, and the last to the first."""
     if not are_names(ring) or not 3 <= len(ring) <= MAX_PLACES or len(set(ring)) != len(ring):
         raise InvalidWeb("this is no tuple of three to nine different names")
-    return _sorted_web(ring, [tie_of(a, b) for a, b in zip(ring, ring[1:] + ring[:1])])
+    return _sorted_web(ring, [tie_of(a, b) for a, b in steps_round(ring)])
 
 
 def need_web(web):
@@ -189,6 +186,14 @@ def need_place(web, place):
         raise UnknownName(place)
 
 
+def is_place_set(web, value):
+    """Whether the value is an ascending tuple of places of a web, perhaps an empty one."""
+    if not isinstance(value, tuple) or not all([place in web.places for place in value]):
+        return False
+    # Only here are all of them strings, which can be compared.
+    return ascends(value)
+
+
 def is_tie(value):
     """Whether the value is an ascending pair of names."""
     return are_names(value) and len(value) == 2 and value[0] < value[1]
@@ -197,6 +202,11 @@ def is_tie(value):
 def tie_of(a, b):
     """The tie of two places, whichever of them comes first."""
     return (min(a, b), max(a, b))
+
+
+def steps_round(row):
+    """The list of the pairs of neighbours in a tuple, the last and the first item among them."""
+    return list(zip(row, row[1:] + row[:1]))
 
 
 def ascends(row):

@@ -35,9 +35,7 @@ def is_naming(names, value):
     """Whether the value is a dict from just these names to names that differ."""
     if not are_names(names):
         raise InvalidPlace("the names have to be a tuple of names")
-    if not isinstance(value, dict) or len(value) != len(set(names)):
-        return False
-    if not all([name in value for name in names]):
+    if not has_just_keys(value, sorted(set(names))):
         return False
     told = tuple(value.values())
     return are_names(told) and len(set(told)) == len(told)
@@ -57,10 +55,7 @@ def fraction(top, bottom):
         raise InvalidNumber(top)
     if not is_integer(bottom) or bottom == 0:
         raise InvalidNumber(bottom)
-    common = gcd(top, bottom)
-    if bottom < 0:
-        common = -common
-    return (top // common, bottom // common)
+    return lowest(top, bottom)
 
 
 def part_of_one(fraction):
@@ -69,6 +64,19 @@ def part_of_one(fraction):
         raise InvalidNumber(fraction)
     top, bottom = fraction
     return (top % bottom, bottom)
+
+
+def lowest(top, bottom):
+    """The fraction with the value of top / bottom, whose numbers can be of any length."""
+    common = gcd(top, bottom)
+    if bottom < 0:
+        common = -common
+    return (top // common, bottom // common)
+
+
+def has_just_keys(value, keys):
+    """Whether the value is a dict with just these keys, which differ from one another."""
+    return isinstance(value, dict) and len(value) == len(keys) and all([key in value for key in keys])
 
 
 def _is_whole(value):

@@ -1,0 +1,1 @@
+"""The trees that join a web."""
