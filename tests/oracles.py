@@ -92,3 +92,45 @@ def gap_of_heights(web, heights):
         near = [b if place == a else a for a, b in web.ties if place in (a, b)]
         told[place] = len(near) * Fraction(*heights[place]) - sum(Fraction(*heights[other]) for other in near)
     return told
+
+
+def leanings_of(web):
+    """All leanings of a web."""
+    for ends in product(*web.ties):
+        yield dict(zip(web.ties, ends))
+
+
+def steps_along(leaning):
+    """The pairs of the places from and to which each tie leans."""
+    return [(b if end == a else a, end) for (a, b), end in leaning.items()]
+
+
+def reached_by_marks(web, leaning, place):
+    """All places to which one comes along a leaning, by marking them again and again."""
+    found = {place}
+    for _ in web.places:
+        found |= {end for start, end in steps_along(leaning) if start in found}
+    return found
+
+
+def is_walked_along(leaning, ring):
+    """Whether a tuple of places is walked along a leaning, and back to its first place."""
+    steps = steps_along(leaning)
+    return len(ring) >= 3 and len(set(ring)) == len(ring) and all(
+        pair in steps for pair in zip(ring, ring[1:] + ring[:1]))
+
+
+def has_ring(web, leaning):
+    """Whether some ring is walked along a leaning: a tie leans back to a place from which one comes to it."""
+    return any(start in reached_by_marks(web, leaning, end) for start, end in steps_along(leaning))
+
+
+def numbers_of(web, leaning):
+    """The numbers of the debts of a leaning, in the order of the places."""
+    ends = list(leaning.values())
+    return tuple(ends.count(place) - 1 for place in web.places)
+
+
+def with_other_ends(leaning, ties):
+    """The leaning with these ties the other way."""
+    return {tie: tie[0] if (end == tie[1]) == (tie in ties) else tie[1] for tie, end in leaning.items()}

@@ -1,5 +1,6 @@
 """Webs and values that several tests use, and plain oracles to hold the program against."""
 
+import random
 from itertools import permutations
 
 from owedround.base.tables import Table
@@ -63,6 +64,16 @@ STRANGE = (
 ALL_STRANGE = STRANGE + (RING, (RING, KITE), [FOUR], {"a": RING})
 # These are no places of the webs here, whatever else they are.
 NO_PLACES = ALL_STRANGE + ("zz", "A", 0, FLAT, Debts.none(KITE))
+
+
+def debts_with_total(web, total, many, seed, most=3):
+    """Some debts of a total, always the same ones."""
+    rnd = random.Random(seed)
+    told = []
+    for _ in range(many):
+        debts = Debts(web, {place: rnd.randint(-most, most) for place in web.places})
+        told.append(debts + (total - debts.total) * Debts.at(web, rnd.choice(web.places)))
+    return told
 
 
 def joined(places, ties):

@@ -8,6 +8,7 @@ import samples
 
 MODULES = (
     "base.words", "base.webs", "base.rings", "base.tables", "owe.debts", "owe.burning", "tree.joining",
+    "owe.classes", "lean.leanings", "lean.ways", "lean.broken",
 )
 
 WORDS = '''
@@ -77,6 +78,51 @@ JOINING = '''
 [(('a', 'c'), ('b', 'd'), ('c', 'd')), {'a': 'b', 'b': 'd', 'c': 'a'}, True, False]
 '''
 
+CLASSES = '''
+>>> step = Debts.from_lines(KITE, "a owes 1", "b has 1")
+>>> far = Debts.from_lines(KITE, "a owes 1", "d has 1")
+>>> [order_of(step), order_of(far), heights_of(step), heights_of(far)["d"], order_of(Debts.none(RING))]
+[8, 2, {'a': (0, 1), 'b': (5, 8), 'c': (3, 8), 'd': (1, 2)}, (1, 1), 1]
+>>> [pairing(step, step), pairing(step, far), pairing(far, step), pairing(far, far), pairing(step, 2 * step), pairing(2 * far, step)]
+[(5, 8), (1, 2), (1, 2), (0, 1), (1, 4), (0, 1)]
+>>> [heights_of(Debts.none(KITE).lent("a")), len(list(each_class(KITE))), list(each_class(KITE))[0].lines, list(each_class(KITE))[3].lines, list(each_class(KITE))[7].lines]
+[{'a': (0, 1), 'b': (1, 1), 'c': (1, 1), 'd': (1, 1)}, 8, (), ('a owes 2', 'c has 1', 'd has 1'), ('a owes 2', 'b has 2')]
+'''
+
+LEANINGS = '''
+>>> LATE = {("a", "b"): "b", ("a", "c"): "c", ("b", "c"): "c", ("b", "d"): "d", ("c", "d"): "d"}
+>>> [debts_of(KITE, LATE).lines, sources(KITE, LATE), ring_of(KITE, LATE), leaning_order(KITE, LATE), is_led(KITE, LATE, "a"), is_led(KITE, LATE, "b")]
+[('a owes 1', 'c has 1', 'd has 1'), ('a',), None, ('a', 'b', 'c', 'd'), True, False]
+>>> [turned(KITE, LATE, ("cut", ("d",)))[("b", "d")], debts_of(KITE, turned(KITE, LATE, ("cut", ("c", "d")))).lines, is_turn(KITE, LATE, ("cut", ("c",))), sources(KITE, opposite(KITE, LATE))]
+['b', ('b has 2', 'c owes 1'), False, ('d',)]
+>>> some = Debts.from_lines(KITE, "a has 2", "b owes 1")
+>>> [crowded(some), leaning_with(some), is_crowded(some, ("b", "c")), crowded(debts_of(KITE, LATE)), is_crowded(Debts.none(RING), ("a", "b", "c"))]
+[('b', 'c', 'd'), None, False, None, False]
+'''
+
+WAYS = '''
+>>> one = {("a", "b"): "b", ("a", "c"): "c", ("b", "c"): "c"}
+>>> other = {("a", "b"): "b", ("a", "c"): "a", ("b", "c"): "b"}
+>>> round_one, round_other = {("a", "b"): "b", ("a", "c"): "a", ("b", "c"): "c"}, {("a", "b"): "a", ("a", "c"): "c", ("b", "c"): "b"}
+>>> [way_between(RING, one, other), way_between(RING, one, round_one), is_way(RING, round_one, round_other, ((), (("c", "a", "b"),))), is_way(RING, one, other, ((("c",), ("b", "c")), ()))]
+[((('c',),), ()), None, True, False]
+>>> [choice_of(RING, one)[0], choice_of(RING, round_one)[0], choice_of(KITE, turned(KITE, LATE, ("cut", ("d",))))[0], leaning_alike(Debts.none(RING)) in (round_one, round_other)]
+['ringless', 'leaned', 'ringless', True]
+>>> leaning_alike(Debts.none(KITE))
+raises InvalidOperation
+'''
+
+BROKEN = '''
+>>> heap = Debts.at(KITE, "a", "a")
+>>> [is_broken(heap), lacking(heap), broken_alike(heap).lines, is_broken(Debts.at(KITE, "a", "d")), lacking(Debts.at(KITE, "b", "c"))]
+[False, ('b', 'c', 'd'), ('b has 1', 'c has 1'), True, None]
+>>> [is_breaking(Debts.at(KITE, "a", "d"), ((("a", "b"), ("b", "c"), ("b", "d")), {("a", "c"): "a", ("c", "d"): "d"})), len(list(each_broken(KITE))), [debts.lines for debts in each_broken(KITE)][:2]]
+[True, 8, [('c has 1', 'd has 1'), ('c has 2',)]]
+>>> leaning = broken_leaning(Debts.at(KITE, "b", "c"), "a")
+>>> [debts_of(KITE, leaning).lines, is_led(KITE, leaning, "a"), leaning[("a", "b")], breaking(Debts.none(KITE))]
+[('a owes 1', 'b has 1', 'c has 1'), True, 'b', None]
+'''
+
 
 class Examples(unittest.TestCase):
     def known(self):
@@ -117,6 +163,18 @@ class Examples(unittest.TestCase):
 
     def test_joining(self):
         self.check(JOINING)
+
+    def test_classes(self):
+        self.check(CLASSES)
+
+    def test_leanings(self):
+        self.check(LEANINGS)
+
+    def test_ways(self):
+        self.check(LEANINGS + WAYS)
+
+    def test_broken(self):
+        self.check(BROKEN)
 
 
 if __name__ == "__main__":

@@ -29,9 +29,21 @@ MODULES = {
         ring_closed(web, tree, tie) cut_closed(web, tree, tie) side_of(web, tree, tie, place)
         exchanged(web, tree, out, new) hands_of(web, tree, home) is_hands(web, home, value)
         tree_of_hands(web, home, hands)""",
+    "owe.classes": "order_of(debts) heights_of(debts) pairing(one, other) each_class(web)",
+    "lean.leanings": """
+        is_leaning(web, value) debts_of(web, leaning) opposite(web, leaning) sources(web, leaning)
+        is_led(web, leaning, place) is_ringless(web, leaning) ring_of(web, leaning) leaning_order(web, leaning)
+        is_leaning_order(web, leaning, value) leaning_with(debts) crowded(debts) is_crowded(debts, value)
+        is_turn(web, leaning, value) turned(web, leaning, turn)""",
+    "lean.ways": """
+        leaning_alike(debts) led_leaning(debts, place) way_between(web, one, other) is_way(web, one, other, value)
+        choice_of(web, leaning)""",
+    "lean.broken": """
+        is_broken(debts) breaking(debts) is_breaking(debts, value) lacking(debts) is_lacking(debts, value)
+        broken_alike(debts) each_broken(web) broken_leaning(debts, place)""",
 }
 CONSTANTS = {"base.words": {"MAX_LETTERS": 8, "MAX_FIGURES": 60}, "base.webs": {"MAX_PLACES": 9, "MAX_TIES": 18}}
-GENERATORS = ("each_ring", "each_table", "each_reduced", "each_tree")
+GENERATORS = ("each_ring", "each_table", "each_reduced", "each_tree", "each_class", "each_broken")
 # An object of each class, its class methods, properties, methods and operators.
 CLASSES = (
     (KITE, "from_lines(*lines) of_ties(*ties)", "places ties lines spare bridges", """
@@ -42,7 +54,8 @@ CLASSES = (
         round_at(place) behind(place, neighbour) ahead(place, neighbour) rim_along(place, neighbour)
         with_round(place, row) with_tie(a, x, b, y) without_tie(a, b) renamed(names)""",
      "init contains len iter eq str"),
-    (Debts.none(KITE), "none(web) at(web, *places) from_lines(web, *lines)", "web amounts total owing is_free lines", """
+    (Debts.none(KITE), "none(web) at(web, *places) from_lines(web, *lines)",
+     "web amounts total owing is_free lines", """
         lent(place, *, many=1) lent_together(places) moved(giver, taker, *, many=1) after(plan) renamed(names)""",
      "init contains len iter eq str getitem add sub neg mul rmul"),
 )

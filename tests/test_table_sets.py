@@ -140,10 +140,11 @@ class Sides(ErrorCase):
         self.assertEqual(sorted(first + second), [("a", "b"), ("a", "c"), ("d", "e")])
 
     def test_the_order_of_the_checks(self):
+        good = [FLAT, ("a", "b", "c")]
         for call in (sides_of, ties_within_sides):
             for wrong in ALL_STRANGE + (KITE, FLAT.rounds):
-                self.in_order(call, [FLAT, ("a", "b", "c")], (0, wrong, InvalidTable), (1, ("a", "b", "d"), InvalidRing))
-            self.in_order(call, [FLAT, ("a", "b", "c")], (0, TWIST, InvalidDrawing), (1, None, InvalidRing))
+                self.in_order(call, good, (0, wrong, InvalidTable), (1, ("a", "b", "d"), InvalidRing))
+            self.in_order(call, good, (0, TWIST, InvalidDrawing), (1, None, InvalidRing))
             for wrong in ALL_STRANGE + (("a", "b", "d"), ("a", "b"), ["a", "b", "c"], ("a", "b", "c", "a"), FLAT):
                 self.refused(InvalidRing, call, FLAT, wrong)
             self.refused(InvalidRing, call, Table.plain(NINE), ("a", "b", "c"))
