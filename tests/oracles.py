@@ -134,3 +134,103 @@ def numbers_of(web, leaning):
 def with_other_ends(leaning, ties):
     """The leaning with these ties the other way."""
     return {tie: tie[0] if (end == tie[1]) == (tie in ties) else tie[1] for tie, end in leaning.items()}
+
+
+def behind_by_hand(table, place, neighbour):
+    """The neighbour behind another one in a round."""
+    row = table.rounds[place]
+    return (row + row[:1])[row.index(neighbour) + 1]
+
+
+def hands_by_hand(tree, home):
+    """The hands of a joining tree towards home, by painting it from the home on."""
+    hands, found = {}, [home]
+    for here in found:
+        for tie in tree:
+            other = [end for end in tie if end != here][0]
+            if here in tie and other not in found:
+                hands[other] = here
+                found.append(other)
+    return hands
+
+
+def tree_by_hand(hands):
+    """The ties between places and where their hands point, ascending."""
+    return tuple(sorted(tuple(sorted(pair)) for pair in hands.items()))
+
+
+def walk_by_hand(table, hands, home, place):
+    """[10.1] word for word: the places on a walk; the hands are turned."""
+    way = [place]
+    while place != home:
+        hands[place] = behind_by_hand(table, place, hands[place])
+        place = hands[place]
+        way.append(place)
+    return tuple(way)
+
+
+def walked_by_hand(table, home, tree, *places):
+    """The tree behind the walks from these places."""
+    hands = hands_by_hand(tree, home)
+    for place in places:
+        walk_by_hand(table, hands, home, place)
+    return tree_by_hand(hands)
+
+
+def walkers_of(debts, home):
+    """The places from which walkers walk by debts, each one as often as walkers do."""
+    amounts = reduced_by_hand(debts, home)
+    return [place for place in amounts if place != home for _ in range(amounts[place])]
+
+
+def tour_by_hand(table, tree, place, neighbour):
+    """[12.1] in another order of thoughts: round a place, and round each branch in its turn."""
+    pairs = []
+
+    def go_round(here, first, before):
+        row = table.rounds[here]
+        at = row.index(first)
+        for other in row[at:] + row[:at]:
+            pairs.append((here, other))
+            if tuple(sorted((here, other))) in tree and other != before:
+                go_round(other, behind_by_hand(table, other, here), here)
+
+    go_round(place, neighbour, None)
+    return tuple(pairs)
+
+
+def met_by_hand(table, tree, place, neighbour):
+    """The pairs of the ties and where they are met first, in this order."""
+    met = {}
+    for pair in tour_by_hand(table, tree, place, neighbour):
+        met.setdefault(tuple(sorted(pair)), pair[0])
+    return met
+
+
+def starts_of(table):
+    """All pairs of a place and a neighbour."""
+    return [(place, neighbour) for place, row in table.rounds.items() for neighbour in row]
+
+
+def ring_by_trial(web, tree, tie):
+    """The ties of the ring that a tie off a tree closes: those that can be left out instead."""
+    return [out for out in sorted(tree + (tie,)) if joined(web.places, [one for one in tree + (tie,) if one != out])]
+
+
+def cut_by_trial(web, tree, tie):
+    """The ties of the cut that a tie of a tree closes: those that can be put in instead."""
+    rest = [one for one in tree if one != tie]
+    return [new for new in web.ties if joined(web.places, rest + [new])]
+
+
+def first_side_by_marks(table, ring):
+    """The rims on the first side of a ring of a drawing, by marking them again and again."""
+    steps = list(zip(ring, ring[1:] + ring[:1]))
+    ties = {tuple(sorted(step)) for step in steps}
+    on = {step: rim for rim in rims_by_marks(table.rounds) for step in zip(rim, rim[1:] + rim[:1])}
+    found = {on[step] for step in steps}
+    for _ in table.rims:
+        for a, b in [tie for tie in table.web.ties if tie not in ties]:
+            if on[a, b] in found or on[b, a] in found:
+                found |= {on[a, b], on[b, a]}
+    return found

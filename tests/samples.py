@@ -31,6 +31,18 @@ FLAT = Table.from_lines("a: b c", "b: a c d", "c: a d b", "d: b c")
 TWIST = Table.from_lines("a: b c", "b: a c d", "c: a b d", "d: b c")
 STAR = Table.from_lines("a: b d c", "b: a c d", "c: a d b", "d: a b c")
 TABLES = (FLAT, TWIST, STAR) + tuple(Table.plain(web) for web in WEBS + (ODD,))
+# Two rings with one place in common, where they touch or cross.
+TOUCH = Table.from_lines("a: b c d e", "b: a c", "c: a b", "d: a e", "e: a d")
+CROSS = Table.from_lines("a: b d c e", "b: a c", "c: a b", "d: a e", "e: a d")
+# Drawings of held webs: a wheel, a prism, the one whose rims are twelve, and one with nine rims.
+WHEEL = Table.from_lines("a: b e d", "b: a c e", "c: b d e", "d: a e c", "e: a b c d")
+PRISM = Table.from_lines("a: b d c", "b: a c e", "c: a f b", "d: a e f", "e: b f d", "f: c d e")
+OCTA = Table.from_lines("a: b n d s", "b: a s c n", "c: b s d n", "d: a n c s", "n: a b c d", "s: a d c b")
+HELD = Table.from_lines(
+    "a: d h e", "b: d f i", "c: d i g h", "d: a f b i c", "e: a g f", "f: b d e i", "g: c e h", "h: a c g", "i: b f c d"
+)
+# Places that are called like rims.
+RIMMED = STAR.renamed({"a": "rb", "b": "ra", "c": "rd", "d": "r"})
 
 # Values that are neither a name nor a tie nor a web nor an integer, nor anything else of this package.
 STRANGE = (
@@ -64,6 +76,37 @@ STRANGE = (
 ALL_STRANGE = STRANGE + (RING, (RING, KITE), [FOUR], {"a": RING})
 # These are no places of the webs here, whatever else they are.
 NO_PLACES = ALL_STRANGE + ("zz", "A", 0, FLAT, Debts.none(KITE))
+
+
+def tables_of(web, many, seed):
+    """Some tables of a web, always the same ones, mostly no drawings."""
+    rnd = random.Random(seed)
+    told = []
+    for _ in range(many):
+        rows = {place: web.neighbours(place) for place in web.places}
+        told.append(Table(web, {
+            place: row[:1] + tuple(rnd.sample(row[1:], len(row) - 1)) for place, row in rows.items()
+        }))
+    return told
+
+
+def grown_drawing(places, ties, seed):
+    """Some drawing, always the same one, with as many ties as that, if they fit in."""
+    rnd = random.Random(seed)
+    table = Table.from_lines(f"{places[0]}: {places[1]}", f"{places[1]}: {places[0]}")
+    for new in places[2:]:
+        near = rnd.choice(table.web.places)
+        rounds = {**table.rounds, new: (near,)}
+        at = rnd.randint(1, len(rounds[near]))
+        row = rounds[near][:at] + (new,) + rounds[near][at:]
+        rounds[near] = min(row[k:] + row[:k] for k in range(len(row)))
+        table = Table(table.web.with_place(new, near), rounds)
+    for _ in range(40 * ties):
+        rim = rnd.choice(table.rims)
+        k, m = rnd.randrange(len(rim)), rnd.randrange(len(rim))
+        if len(table.web.ties) < ties and rim[k] != rim[m] and not table.web.is_tied(rim[k], rim[m]):
+            table = table.with_tie(rim[k], rim[k - 1], rim[m], rim[m - 1])
+    return table
 
 
 def debts_with_total(web, total, many, seed, most=3):

@@ -3,9 +3,9 @@
 from math import factorial
 
 from owedround.base.rings import is_ring, least_rotation, ring_ties
-from owedround.base.webs import Web, need_place, need_web, steps_round, tie_of
+from owedround.base.webs import Web, need_place, need_tied, need_web, steps_round, tie_of
 from owedround.base.words import are_names, has_just_keys, is_name
-from owedround.errors import InvalidDrawing, InvalidRing, InvalidTable, InvalidTie, ParseError
+from owedround.errors import InvalidDrawing, InvalidRing, InvalidTable, ParseError
 
 
 class Table:
@@ -80,17 +80,17 @@ class Table:
 
     def behind(self, place, neighbour):
         """The neighbour of a place behind a neighbour."""
-        self._need_tied(place, neighbour)
+        need_tied(self._web, place, neighbour)
         return _next_in(self._rounds[place], neighbour)
 
     def ahead(self, place, neighbour):
         """The neighbour of a place ahead of a neighbour."""
-        self._need_tied(place, neighbour)
+        need_tied(self._web, place, neighbour)
         return _next_in(self._rounds[place][::-1], neighbour)
 
     def rim_along(self, place, neighbour):
         """The rim on which one goes from a place to a neighbour."""
-        self._need_tied(place, neighbour)
+        need_tied(self._web, place, neighbour)
         return self._along[(place, neighbour)]
 
     def with_round(self, place, row):
@@ -104,8 +104,8 @@ class Table:
         """The table with a tie more, behind x in the round of a and behind y in that of b."""
         for place in (a, x, b, y):
             need_place(self._web, place)
-        self._need_tied(a, x)
-        self._need_tied(b, y)
+        need_tied(self._web, a, x)
+        need_tied(self._web, b, y)
         web = self._web.with_tie(a, b)
         rounds = self.rounds
         rounds[a] = _put_behind(rounds[a], x, b)
@@ -140,11 +140,6 @@ class Table:
 
     def __str__(self):
         return f"table of {len(self._web.places)} places, {len(self._web.ties)} ties, {len(self._rims)} rims"
-
-    def _need_tied(self, place, neighbour):
-        """Refuses what are not two places that are tied."""
-        if not self._web.is_tied(place, neighbour):
-            raise InvalidTie("these places are not tied")
 
 
 def is_table(web, value):
@@ -198,11 +193,16 @@ def need_table(table):
         raise InvalidTable("this is no table")
 
 
-def _need_ring_of_drawing(table, ring):
-    """Refuses what are not a drawing and a ring of its web."""
+def need_drawing(table):
+    """Refuses what is no table, and what is no drawing."""
     need_table(table)
     if not table.is_drawing:
         raise InvalidDrawing("this table is no drawing")
+
+
+def _need_ring_of_drawing(table, ring):
+    """Refuses what are not a drawing and a ring of its web."""
+    need_drawing(table)
     if not is_ring(table.web, ring):
         raise InvalidRing("this is no ring of the web")
 

@@ -186,6 +186,12 @@ def need_place(web, place):
         raise UnknownName(place)
 
 
+def need_tied(web, place, neighbour):
+    """Refuses what are not two places of a web that are tied."""
+    if not web.is_tied(place, neighbour):
+        raise InvalidTie("these places are not tied")
+
+
 def is_place_set(web, value):
     """Whether the value is an ascending tuple of places of a web, perhaps an empty one."""
     if not isinstance(value, tuple) or not all([place in web.places for place in value]):

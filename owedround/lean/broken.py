@@ -2,11 +2,11 @@
 
 from owedround.base.webs import is_place_set, need_place, need_web, reached_along, tie_of
 from owedround.base.words import has_just_keys
-from owedround.errors import InvalidOperation, TooMany
+from owedround.errors import InvalidOperation
 from owedround.lean.leanings import crowded, debts_of, leaning_with, trails_from
 from owedround.lean.ways import led_leaning
 from owedround.owe.debts import Debts, need_debts, need_total
-from owedround.tree.joining import count_trees, is_joining_tree
+from owedround.tree.joining import is_joining_tree, need_few_trees
 
 MAX_TREES = 1000
 
@@ -78,8 +78,7 @@ def broken_alike(debts):
 def each_broken(web):
     """All broken debts of a web, ascending by their numbers in the order of the places."""
     need_web(web)
-    if count_trees(web) > MAX_TREES:
-        raise TooMany(MAX_TREES)
+    need_few_trees(web, MAX_TREES)
     least = _least_sums(web)
     # What stands last is taken first: so the rows are turned backward to come out ascending.
     rows = [()]

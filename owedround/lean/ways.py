@@ -71,6 +71,16 @@ def choice_of(web, leaning):
     return ("leaned", _led_by_cuts(web, own, ring[0]))
 
 
+def ring_along(leaning, ties):
+    """A ring that is walked along the leaning, of ties of which as many lean to each place as from it."""
+    way = []
+    place = ties[0][0]
+    while place not in way:
+        way.append(place)
+        place = [leaning[tie] for tie in ties if place in tie and leaning[tie] != place][0]
+    return tuple(way[way.index(place):])
+
+
 def _need_total_of_leanings(debts):
     """Refuses what are no debts with the total of the debts of leanings."""
     need_debts(debts)
@@ -97,20 +107,10 @@ def _rings_between(web, one, other):
     left = [tie for tie in web.ties if one[tie] != other[tie]]
     rings = []
     while left:
-        ring = _ring_along(one, left)
+        ring = ring_along(one, left)
         rings.append(ring)
         left = [tie for tie in left if tie not in ring_ties(ring)]
     return tuple(rings)
-
-
-def _ring_along(leaning, ties):
-    """A ring that is walked along the leaning, of ties of which as many lean to each place as from it."""
-    way = []
-    place = ties[0][0]
-    while place not in way:
-        way.append(place)
-        place = [leaning[tie] for tie in ties if place in tie and leaning[tie] != place][0]
-    return tuple(way[way.index(place):])
 
 
 def _are_nested(sets):

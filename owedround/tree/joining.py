@@ -4,7 +4,7 @@ from owedround.base.rings import least_rotation
 from owedround.base.solving import solved
 from owedround.base.webs import ascends, need_place, need_web, reached_along, tie_of
 from owedround.base.words import has_just_keys
-from owedround.errors import InvalidOperation, InvalidTie, InvalidTree
+from owedround.errors import InvalidOperation, InvalidTie, InvalidTree, TooMany
 
 
 def is_joining_tree(web, value):
@@ -111,6 +111,22 @@ def need_tree(web, tree):
     """Refuses what is no joining tree of the web."""
     if not is_joining_tree(web, tree):
         raise InvalidTree("this is no joining tree of the web")
+
+
+def need_few_trees(web, limit):
+    """Refuses a web with more joining trees."""
+    if count_trees(web) > limit:
+        raise TooMany(limit)
+
+
+def least_tree(web):
+    """The least of all joining trees."""
+    # Each tie that closes no ring with lesser ones is in it.
+    tree = ()
+    for a, b in web.ties:
+        if b not in reached_along(tree, a):
+            tree = tree + ((a, b),)
+    return tree
 
 
 def _need_on(tree, tie):

@@ -1,0 +1,1 @@
+"""Turning hands: walkers, rides and tours along a table of turns."""
