@@ -8,7 +8,8 @@ import samples
 
 MODULES = (
     "base.words", "base.webs", "base.rings", "base.tables", "owe.debts", "owe.burning", "tree.joining",
-    "owe.classes", "lean.leanings", "lean.ways", "lean.broken",
+    "owe.classes", "lean.leanings", "lean.ways", "lean.broken", "turn.hands", "turn.rides", "turn.tours",
+    "turn.least", "turn.busy", "dual.duals", "flat.papers", "use.bench",
 )
 
 WORDS = '''
@@ -123,6 +124,110 @@ BROKEN = '''
 [('a owes 1', 'b has 1', 'c has 1'), True, 'b', None]
 '''
 
+HANDS = '''
+>>> tree = (("a", "b"), ("b", "c"), ("b", "d"))
+>>> [walk(FLAT, "d", tree, "a"), walked(FLAT, "d", tree, "a"), walk(FLAT, "d", tree, "b"), walked(FLAT, "d", tree, "b"), walk(FLAT, "d", tree, "d")]
+[('a', 'c', 'a', 'b', 'a', 'c', 'd'), (('a', 'b'), ('a', 'c'), ('c', 'd')), ('b', 'a', 'c', 'a', 'b', 'c', 'd'), (('a', 'b'), ('b', 'c'), ('c', 'd')), ('d',)]
+>>> debts = Debts.at(KITE, "a") - Debts.at(KITE, "d")
+>>> [acted(FLAT, "d", tree, debts) == walked(FLAT, "d", tree, "a"), turns_made(FLAT, "d", tree, debts), acted(TWIST, "d", tree, debts)]
+[True, {'a': 3, 'b': 1, 'c': 2}, (('a', 'c'), ('b', 'd'), ('c', 'd'))]
+>>> [leading(FLAT, "d", tree, (("a", "b"), ("b", "c"), ("c", "d"))).lines, walked_back(FLAT, "d", (("a", "b"), ("a", "c"), ("c", "d")), "a") == tree, sent(FLAT, "d", tree, "a", "b") == sent(FLAT, "d", tree, "b", "a")]
+[('b has 1', 'd owes 1'), True, True]
+>>> [walks_back(FLAT, "d", tree, "b"), walks_back(FLAT, "d", tree, "a"), walks_back(FLAT, "d", tree, "d")]
+[8, 2, 1]
+'''
+
+RIDES = '''
+>>> ride = ({"a": "b", "b": "c", "c": "a", "d": "b"}, "a")
+>>> [is_ride(FLAT, ride), is_ride(FLAT, ({"a": "b", "b": "a", "c": "d", "d": "c"}, "a")), is_ride(FLAT, (ride[0], "d")), loop_of(FLAT, stepped_back(FLAT, ride))]
+[True, False, False, ('c', 'b')]
+>>> [stepped(FLAT, ride), stepped_back(FLAT, ride), stepped(FLAT, ride, many=10 ** 20) == ride, tree_of_ride(FLAT, ride)]
+[({'a': 'c', 'b': 'c', 'c': 'a', 'd': 'b'}, 'c'), ({'a': 'b', 'b': 'c', 'c': 'b', 'd': 'b'}, 'c'), True, (('a', 'c'), ('b', 'c'), ('b', 'd'))]
+>>> [ride_at(FLAT, (("a", "c"), ("b", "c"), ("b", "d")), "a", "b") == ride, len(round_of(FLAT, ride)), count_rounds(KITE)]
+[True, 10, 8]
+>>> [steps_to_turn(FLAT, ride), stepped(FLAT, ride, many=7), steps_to_turn(TWIST, ride)]
+[7, ({'a': 'c', 'b': 'a', 'c': 'b', 'd': 'b'}, 'a'), None]
+>>> [turned_ride(FLAT, ride) == stepped(FLAT, ride, many=7), same_round(FLAT, ride, turned_ride(FLAT, ride)), same_round(TWIST, ride, turned_ride(TWIST, ride))]
+[True, True, False]
+>>> [ride_class(FLAT, ride).lines, ride_class(TWIST, ride) == ride_class(TWIST, turned_ride(TWIST, ride)), turning_debts(FLAT, ("a", "b", "c")).lines, turning_debts(TWIST, ("a", "b", "c")).lines]
+[('a owes 1', 'b has 2'), False, ('b owes 1', 'c owes 1', 'd has 2'), ('b owes 1', 'd has 1')]
+'''
+
+TOURS = '''
+>>> tree = (("a", "b"), ("b", "c"), ("b", "d"))
+>>> tour(FLAT, tree, "a", "b")
+(('a', 'b'), ('b', 'c'), ('c', 'a'), ('c', 'd'), ('c', 'b'), ('b', 'd'), ('d', 'c'), ('d', 'b'), ('b', 'a'), ('a', 'c'))
+>>> [first_met(FLAT, tree, "a", "b"), list(first_met(FLAT, tree, "a", "b"))[2], broken_by(FLAT, tree, "a", "b").lines, broken_by(FLAT, tree, "a", "c").lines]
+[{('a', 'b'): 'a', ('b', 'c'): 'b', ('a', 'c'): 'c', ('c', 'd'): 'c', ('b', 'd'): 'b'}, ('a', 'c'), ('c has 2',), ('a has 1', 'c has 1')]
+>>> [tree_by(FLAT, Debts.at(KITE, "c", "c"), "a", "b") == tree, toured(FLAT, "a", tree, Debts.from_lines(KITE, "a owes 1", "b has 1")), broken_by(TWIST, (("a", "b"), ("a", "c"), ("b", "d")), "a", "b").lines]
+[True, (('a', 'c'), ('b', 'c'), ('b', 'd')), ('b has 1', 'd has 1')]
+'''
+
+LEAST = '''
+>>> leaning = tour_leaning(FLAT, (("a", "c"), ("b", "c"), ("b", "d")), "a", "b")
+>>> [leaning, debts_of(KITE, leaning).lines, is_least(FLAT, ("a", "b", "c"), leaning), tree_by_leaning(FLAT, leaning, "a", "b")]
+[{('a', 'b'): 'a', ('a', 'c'): 'c', ('b', 'c'): 'b', ('b', 'd'): 'd', ('c', 'd'): 'c'}, ('c has 1',), True, (('a', 'c'), ('b', 'c'), ('b', 'd'))]
+>>> inner = ("b", "d", "c")
+>>> [is_right_ring(FLAT, inner, leaning, ("c", "b", "d")), is_right_ring(FLAT, inner, leaning, ("a", "c", "b")), is_right_ring(FLAT, ("a", "c", "d", "b"), leaning, ("b", "d", "c")), right_ring(FLAT, ("a", "b", "c"), leaning)]
+[True, True, False, None]
+>>> [least_of(FLAT, inner, leaning), is_way_to_least(FLAT, inner, leaning, (("b", "d", "c"),)), is_way_to_least(FLAT, inner, leaning, (("a", "c", "b"), ("a", "b", "d", "c"))), is_way_to_least(FLAT, inner, leaning, (("a", "c", "b"),))]
+[{('a', 'b'): 'a', ('a', 'c'): 'c', ('b', 'c'): 'c', ('b', 'd'): 'b', ('c', 'd'): 'd'}, True, True, False]
+>>> other = {("a", "b"): "b", ("a", "c"): "c", ("b", "c"): "c", ("b", "d"): "b", ("c", "d"): "d"}
+>>> [tree_by_leaning(TWIST, other, "a", "b"), is_tour_leaning(TWIST, "a", "b", other), tour_leaning(TWIST, (("a", "b"), ("b", "d"), ("c", "d")), "a", "b")[("c", "d")]]
+[(('a', 'b'), ('b', 'd'), ('c', 'd')), False, 'c']
+>>> [len(list(each_least(FLAT, inner, "d"))), is_tour_leaning(FLAT, "a", "b", leaning), is_least(FLAT, inner, leaning)]
+[8, True, False]
+'''
+
+BUSY = '''
+>>> tree = (("a", "c"), ("b", "c"), ("b", "d"))
+>>> [outer_busy(FLAT, tree, "a", "b"), inner_busy(FLAT, tree, "a", "b"), outer_busy(TWIST, tree, "a", "b"), inner_busy(TWIST, tree, "a", "b"), inner_busy(FLAT, (("a", "b"), ("b", "c"), ("c", "d")), "a", "b")]
+[(('a', 'b'), ('c', 'd')), (), (('a', 'b'),), (('b', 'd'),), (('a', 'b'), ('b', 'c'), ('c', 'd'))]
+>>> counts = busy_counts(FLAT, "a", "b")
+>>> [counts, counts == busy_counts(TWIST, "a", "b"), [told_at(counts, x, y) for x, y in ((1, 1), (2, 1), (1, 2), (2, 0), (1, 0), (0, 2), (0, 1), (2, 2), (0, 0))], levels(KITE, "a")]
+[{(0, 1): 1, (0, 2): 1, (1, 0): 1, (1, 1): 2, (2, 0): 2, (3, 0): 1}, True, [8, 24, 14, 18, 4, 6, 2, 32, 0], (1, 3, 4)]
+'''
+
+DUALS = '''
+>>> [rim_names(STAR)["rc"], dual_of(STAR).lines, names_back(STAR), dual_ties(STAR)[("a", "b")]]
+[('a', 'd', 'b'), ('ra: rb rc rd', 'rb: ra rd rc', 'rc: ra rb rd', 'rd: ra rc rb'), {'ra': 'c', 'rb': 'a', 'rc': 'b', 'rd': 'd'}, ('ra', 'rc')]
+>>> spokes = (("a", "b"), ("a", "c"), ("a", "d"))
+>>> [dual_of(dual_of(STAR)).renamed(names_back(STAR)) == STAR, rest_of(STAR, spokes), dual_debts(STAR, Debts.at(FOUR, "b") - Debts.at(FOUR, "a")).lines]
+[True, (('ra', 'rd'), ('rb', 'rd'), ('rc', 'rd')), ('ra owes 2', 'rb has 1', 'rd has 1')]
+>>> dual_leaning(STAR, {("a", "b"): "b", ("a", "c"): "c", ("a", "d"): "d", ("b", "c"): "c", ("b", "d"): "d", ("c", "d"): "d"})
+{('ra', 'rb'): 'rb', ('ra', 'rc'): 'ra', ('ra', 'rd'): 'ra', ('rb', 'rc'): 'rc', ('rb', 'rd'): 'rb', ('rc', 'rd'): 'rd'}
+>>> dual_of(FLAT)
+raises InvalidOperation
+>>> dual_of(TWIST)
+raises InvalidDrawing
+'''
+
+PAPERS = '''
+>>> star, gap = (("a", "b"), ("b", "c"), ("b", "d")), Debts.at(KITE, "a") - Debts.at(KITE, "d")
+>>> [acted(TWIST, "d", star, gap), acted(TWIST, "a", star, gap) == acted(TWIST, "d", star, gap), acted(FLAT, "a", star, gap) == acted(FLAT, "d", star, gap)]
+[(('a', 'c'), ('b', 'd'), ('c', 'd')), False, True]
+>>> [is_difference(TWIST, ("d", "a", star, gap)), is_difference(FLAT, ("d", "a", star, gap)), is_difference(TWIST, ("d", "d", star, gap)), difference_of(FLAT)]
+[True, False, False, None]
+>>> [is_disagreement(TWIST, ("d", star, gap)), is_disagreement(FLAT, ("d", star, gap)), is_disagreement(TWIST, ("d", star, gap + gap)), disagreement_of(FLAT)]
+[True, False, False, None]
+>>> [is_unturned_ring(TWIST, ("c", "b", "a")), is_unturned_ring(FLAT, ("a", "b", "c")), is_unturned_ring(TWIST, ("a", "b", "d")), unturned_ring(FLAT)]
+[True, False, False, None]
+>>> [is_difference(TWIST, difference_of(TWIST)), is_disagreement(TWIST, disagreement_of(TWIST)), is_unturned_ring(TWIST, unturned_ring(TWIST))]
+[True, True, True]
+'''
+
+BENCH = '''
+>>> bench = Bench(FLAT, "a", Debts.at(KITE, "d"), (("a", "b"), ("b", "c"), ("b", "d")))
+>>> [bench.account.lines, bench.walk("d"), bench.lend("a"), bench.account.lines]
+[('a owes 1', 'b has 1', 'd has 1'), (('d has 1', 'join b c', 'join b d'), ('a has 1', 'join a c', 'join c d')), (('a has 1',), ('a owes 1', 'b has 1', 'c has 1')), ('a owes 1', 'b has 1', 'd has 1')]
+>>> [bench.settle(), bench.tree, bench.demand(("joined", "c", "a")), bench.changes, str(bench)]
+[(('a owes 1', 'b has 1', 'c has 1'), ('a has 1',)), (('a', 'b'), ('a', 'c'), ('c', 'd')), ((), ()), 4, 'bench of 4 places, 5 ties, home a, total 1, 1 pledges']
+>>> bench.walk("b")
+raises Refused
+>>> [bench.move("b"), bench.account.lines, bench.strike("b", "d"), bench.undo(many=2), "home a" in bench, bench.during(lambda same: same.give("b", many=-3)), bench.debts.lines]
+[(('home a',), ('home b',)), ('b owes 1', 'c has 2'), (('b: a c d', 'd: b c'), ('b: a c', 'd: c')), (('b: a c', 'd: c', 'home b'), ('b: a c d', 'd: b c', 'home a')), True, ((), ('b owes 3',)), ('a has 1',)]
+'''
+
 
 class Examples(unittest.TestCase):
     def known(self):
@@ -175,6 +280,30 @@ class Examples(unittest.TestCase):
 
     def test_broken(self):
         self.check(BROKEN)
+
+    def test_hands(self):
+        self.check(HANDS)
+
+    def test_rides(self):
+        self.check(RIDES)
+
+    def test_tours(self):
+        self.check(TOURS)
+
+    def test_least(self):
+        self.check(LEAST)
+
+    def test_busy(self):
+        self.check(BUSY)
+
+    def test_duals(self):
+        self.check(DUALS)
+
+    def test_papers(self):
+        self.check(PAPERS)
+
+    def test_bench(self):
+        self.check(BENCH)
 
 
 if __name__ == "__main__":

@@ -6,6 +6,7 @@ import unittest
 
 from samples import FLAT, KITE
 from owedround.owe.debts import Debts
+from owedround.use.bench import Bench
 
 # What each module lists: the functions and classes with their parameters, and the constants.
 MODULES = {
@@ -41,9 +42,41 @@ MODULES = {
     "lean.broken": """
         is_broken(debts) breaking(debts) is_breaking(debts, value) lacking(debts) is_lacking(debts, value)
         broken_alike(debts) each_broken(web) broken_leaning(debts, place)""",
+    "turn.hands": """
+        walk(table, home, tree, place) walked(table, home, tree, place) walked_back(table, home, tree, place)
+        sent(table, home, tree, *places) acted(table, home, tree, debts) turns_made(table, home, tree, debts)
+        leading(table, home, one, other) walks_back(table, home, tree, place)""",
+    "turn.rides": """
+        is_ride(table, value) loop_of(table, ride) stepped(table, ride, *, many=1) stepped_back(table, ride, *, many=1)
+        ride_at(table, tree, place, neighbour) tree_of_ride(table, ride) round_of(table, ride)
+        same_round(table, one, other) count_rounds(web) ride_class(table, ride) turning_debts(table, ring)
+        steps_to_turn(table, ride) turned_ride(table, ride)""",
+    "turn.tours": """
+        tour(table, tree, place, neighbour) first_met(table, tree, place, neighbour)
+        broken_by(table, tree, place, neighbour) tree_by(table, debts, place, neighbour)
+        toured(table, home, tree, debts)""",
+    "turn.least": """
+        tour_leaning(table, tree, place, neighbour) tree_by_leaning(table, leaning, place, neighbour)
+        is_tour_leaning(table, place, neighbour, value) is_right_ring(table, rim, leaning, value)
+        right_ring(table, rim, leaning) is_least(table, rim, leaning) least_of(table, rim, leaning)
+        way_to_least(table, rim, leaning) is_way_to_least(table, rim, leaning, value) each_least(table, rim, place)""",
+    "turn.busy": """
+        outer_busy(table, tree, place, neighbour) inner_busy(table, tree, place, neighbour)
+        busy_counts(table, place, neighbour) told_at(counts, x, y) levels(web, place)""",
+    "dual.duals": """
+        rim_names(table) dual_of(table) dual_ties(table) names_back(table) rest_of(table, tree)
+        dual_debts(table, debts) dual_leaning(table, leaning)""",
+    "flat.papers": """
+        difference_of(table) is_difference(table, value) disagreement_of(table) is_disagreement(table, value)
+        unturned_ring(table) is_unturned_ring(table, value)""",
+    "use.bench": "is_pledge(value) Bench(table, home, debts, tree)",
 }
-CONSTANTS = {"base.words": {"MAX_LETTERS": 8, "MAX_FIGURES": 60}, "base.webs": {"MAX_PLACES": 9, "MAX_TIES": 18}}
-GENERATORS = ("each_ring", "each_table", "each_reduced", "each_tree", "each_class", "each_broken")
+CONSTANTS = {
+    "base.words": {"MAX_LETTERS": 8, "MAX_FIGURES": 60}, "base.webs": {"MAX_PLACES": 9, "MAX_TIES": 18},
+    "dual.duals": {"MAX_RIMS": 9}, "flat.papers": {"MAX_TREES": 1000}, "use.bench": {"MAX_PLEDGES": 10},
+}
+GENERATORS = ("each_ring", "each_table", "each_reduced", "each_tree", "each_class", "each_broken", "each_least")
+TREE = (("a", "b"), ("a", "c"), ("b", "d"))
 # An object of each class, its class methods, properties, methods and operators.
 CLASSES = (
     (KITE, "from_lines(*lines) of_ties(*ties)", "places ties lines spare bridges", """
@@ -58,12 +91,18 @@ CLASSES = (
      "web amounts total owing is_free lines", """
         lent(place, *, many=1) lent_together(places) moved(giver, taker, *, many=1) after(plan) renamed(names)""",
      "init contains len iter eq str getitem add sub neg mul rmul"),
+    (Bench(FLAT, "a", Debts.none(KITE), TREE), "",
+     "table web home debts tree lines account pledges changes", """
+        lend(place, *, many=1) give(place, *, many=1) walk(place) settle() move(home) redraw(rounds)
+        tie(a, x, b, y) strike(a, b) rename(names) demand(pledge) waive(pledge) undo(*, many=1)
+        redo(*, many=1) trial() during(call) twin()""",
+     "init contains len iter eq str"),
 )
 
 
 def split(text):
     """The pairs of a name and its parameters, with their parentheses."""
-    told = " ".join(text.split()).replace(") ", ")\n").split("\n")
+    told = " ".join(text.split()).replace(") ", ")\n").split("\n") if text else []
     return [(one[:one.index("(")], one[one.index("("):]) for one in told]
 
 

@@ -18,7 +18,7 @@ from owedround.turn.tours import broken_by
 from cases import ErrorCase
 from oracles import cut_by_trial, first_side_by_marks, has_ring, is_walked_along, leanings_of, met_by_hand
 from oracles import numbers_of, reached_by_marks, ring_by_trial, starts_of, trees_by_trial, with_other_ends
-from samples import ALL_STRANGE, CROSS, DUMBBELL, FLAT, FOUR, HELD, KITE, LINE, NO_PLACES, OCTA, PAIR, PRISM, RING
+from samples import ALL_STRANGE, CROSS, FLAT, HELD, KITE, LINE, NO_PLACES, OCTA, PAIR, PRISM, RING
 from samples import SIX, STAR, TABLES, TAIL, TOUCH, TWIST, WHEEL, grown_drawing, tables_of
 from test_hands import some_trees
 from test_leanings import AROUND, LATE, NO_LEANINGS, some_leanings, turned_keys
@@ -209,8 +209,8 @@ class RightRings(ErrorCase):
     def test_values_near_right_rings(self):
         self.assertIs(is_right_ring(FLAT, INNER, TOLD, INNER), True)
         for value in ALL_STRANGE + (
-            INNER[::-1], list(INNER), "bdc", ("b", "d"), ("b", "d", "c", "b"), ("b", "d", "a"), ("a", "b", "c"), (), FLAT,
-            ("b", "d", 3), TOLD, ("ring", INNER), (("b", "d"), ("d", "c"), ("b", "c")),
+            INNER[::-1], list(INNER), "bdc", ("b", "d"), ("b", "d", "c", "b"), ("b", "d", "a"), ("a", "b", "c"), (),
+            FLAT, ("b", "d", 3), TOLD, ("ring", INNER), (("b", "d"), ("d", "c"), ("b", "c")),
         ):
             self.assertIs(is_right_ring(FLAT, INNER, TOLD, value), False, value)
 
@@ -280,7 +280,9 @@ class Least(ErrorCase):
         self.assertGreater(met, 50)
 
     def test_every_other_value_is_no_way(self):
-        for value in ALL_STRANGE + (INNER, [INNER], (list(INNER),), (INNER, None), "bdc", ((),), (INNER, INNER), FLAT, TOLD):
+        for value in ALL_STRANGE + (
+            INNER, [INNER], (list(INNER),), (INNER, None), "bdc", ((),), (INNER, INNER), FLAT, TOLD,
+        ):
             self.assertIs(is_way_to_least(FLAT, INNER, TOLD, value), False, value)
             self.assertIs(is_way_to_least(FLAT, ("a", "b", "c"), TOLD, value), value == (), value)
         self.assertIs(is_way_to_least(FLAT, INNER, TOLD, (("d", "c", "b"),)), True)

@@ -266,8 +266,8 @@ class Rounds(ErrorCase):
 
     def test_same_round_with_keys_in_any_order(self):
         hands, place = stepped(FLAT, RIDE, many=3)
-        self.assertIs(same_round(FLAT, (dict(list(RIDE[0].items())[::-1]), "a"), (dict(list(hands.items())[::-1]), place)),
-                      True)
+        one, other = (dict(list(RIDE[0].items())[::-1]), "a"), (dict(list(hands.items())[::-1]), place)
+        self.assertIs(same_round(FLAT, one, other), True)
 
     def test_nothing_is_shared(self):
         told = round_of(FLAT, RIDE)
@@ -395,7 +395,9 @@ class Turning(ErrorCase):
     def test_wrong_rings(self):
         for wrong in NO_TABLES:
             self.in_order(turning_debts, [FLAT, ("a", "b", "c")], (0, wrong, InvalidTable), (1, None, InvalidRing))
-        for wrong in ALL_STRANGE + (("a", "b", "d"), ("a", "b"), ["a", "b", "c"], ("a", "b", "c", "a"), ("a", "b", 3), FLAT):
+        for wrong in ALL_STRANGE + (
+            ("a", "b", "d"), ("a", "b"), ["a", "b", "c"], ("a", "b", "c", "a"), ("a", "b", 3), FLAT,
+        ):
             self.refused(InvalidRing, turning_debts, FLAT, wrong)
 
     def test_loops_of_two_places_behind_the_other_checks(self):

@@ -32,8 +32,9 @@ def first_met(table, tree, place, neighbour):
 def broken_by(table, tree, place, neighbour):
     """The debts in which each tie off the tree gives one to the place at which it is met first."""
     met = first_met(table, tree, place, neighbour)
+    web = table.web
     takers = [met[tie] for tie in met if tie not in tree]
-    return Debts.at(table.web, *takers)
+    return Debts.at(web, *takers)
 
 
 def tree_by(table, debts, place, neighbour):

@@ -1,0 +1,1 @@
+"""The other web that a drawing has."""

@@ -1,0 +1,1 @@
+"""What tells a drawing from other tables."""

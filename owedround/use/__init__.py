@@ -1,0 +1,1 @@
+"""The parts of the package put to use together."""
