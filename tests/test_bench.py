@@ -458,6 +458,9 @@ class Twins(BenchCase):
         again = bench.twin()
         bench.undo(many=3)
         self.assertEqual((again.home, again.changes), ("c", 3))
+        again = bench.twin()
+        self.assertEqual(again.redo(many=3), (("home a",), ("home c",)))
+        self.assertEqual((bench.home, bench.changes), ("a", 0))
 
     def test_a_twin_out_of_a_trial(self):
         bench = made()
@@ -559,6 +562,11 @@ class Values(BenchCase):
         for value in ALL_STRANGE + (FLAT, DEBTS, bench.lines, str(bench)):
             self.assertFalse(bench == value)
             self.assertTrue(bench != value)
+        # Each part alone makes benches differ.
+        parts = [FLAT, "a", DEBTS, TREE]
+        for at, other in ((0, TWIST), (1, "b"), (2, -DEBTS), (3, (("a", "b"), ("b", "c"), ("c", "d")))):
+            self.assertEqual(Bench(*parts), Bench(*parts))
+            self.assertNotEqual(Bench(*parts), Bench(*parts[:at], other, *parts[at + 1:]))
         # What was changed before does not matter.
         bench = made()
         bench.move("a")

@@ -24,8 +24,8 @@ BAD = (
     ("most", "d", "1"), ("home",), ("home", "A"), ("home", None), ("home", "a", "b"), ("home", ""),
     ("home", "abcdefghi"), ("joined", "a", "a"), ("joined", "a"), ("joined", ("a", "b")), ("joined", "a", 1),
     ("joined", "a", "b", "c"), ("joined", None, "b"), ("joined", ["a"], ["b"]), (("drawing",),), ("",), (None,),
-    (["drawing"],), ({"free": 1},), ("no", "a", 1), FLAT, (FLAT,), (KITE, "a"), ("least", FLAT, 1), {"drawing": ()},
-    (1, 2, 3), (True,),
+    (["drawing"],), ({"free": 1},), ("no", "a", 1), ("no", "a", "b"), ("least", "b", "c"), FLAT,
+    (FLAT,), (KITE, "a"), ("least", FLAT, 1), {"drawing": ()}, (1, 2, 3), (True,),
 )
 
 

@@ -5,7 +5,7 @@ from owedround.base.webs import need_place
 from owedround.owe.burning import reduced
 from owedround.owe.classes import order_of
 from owedround.owe.debts import Debts, need_debts, need_equal_webs, need_total
-from owedround.tree.joining import hands_of, need_tree, tree_of_hands
+from owedround.tree.joining import hands_of, tree_of_hands
 
 
 def walk(table, home, tree, place):
@@ -53,7 +53,6 @@ def turns_made(table, home, tree, debts):
 def leading(table, home, one, other):
     """The debts, reduced at the home, that lead from the one joining tree to the other one."""
     hands = _hands_for(table, home, one)
-    need_tree(table.web, other)
     return reduced(-given_by(table, hands, hands_of(table.web, other, home)), home)
 
 
@@ -76,7 +75,6 @@ def _hands_for(table, home, tree):
     """The hands of the tree towards the home, behind the checks of all three."""
     need_table(table)
     need_place(table.web, home)
-    need_tree(table.web, tree)
     return hands_of(table.web, tree, home)
 
 

@@ -1,6 +1,6 @@
 """Tour leanings, and the leanings of a drawing that have no right ring."""
 
-from owedround.base.rings import is_ring, ring_ties
+from owedround.base.rings import ring_ties
 from owedround.base.tables import need_drawing, need_table, sides_of
 from owedround.base.webs import need_place, need_tied, tie_of
 from owedround.errors import InvalidOperation, InvalidRim
@@ -45,7 +45,7 @@ def is_right_ring(table, rim, leaning, value):
     """Whether the value is a ring that runs along the leaning and has the rim on its first side."""
     _need_rim(table, rim)
     need_leaning(table.web, leaning)
-    if not is_ring(table.web, value) or not is_turn(table.web, leaning, ("ring", value)):
+    if not is_turn(table.web, leaning, ("ring", value)):
         return False
     first, _ = sides_of(table, value)
     return rim in first
@@ -55,9 +55,11 @@ def right_ring(table, rim, leaning):
     """Any right ring, None if there is none."""
     _need_rim(table, rim)
     need_leaning(table.web, leaning)
-    # Who crosses the ties from right to left leaves no right ring, as all its ties lead the other way.
-    # So if one comes to all rims there is none. Otherwise the ties between the rims to which one
-    # comes and the others run round the former ones; and these hang together, with the rim.
+    # Who crosses each tie only from its right to its left, as it leans, never leaves the first side of
+    # a ring that runs along the leaning. So if one comes from the rim to all rims, there is no right
+    # ring. Otherwise the ties between the rims to which one comes and the others have the former ones
+    # on their left. As many of these ties lean to each place as from it, so there are rings of them;
+    # and all rims to which one comes are on the first side of each, as they hang together without them.
     ways = [_crossing(table, tie, end) for tie, end in leaning.items()]
     reached = _reached(ways, rim)
     if len(reached) == len(table):
@@ -136,7 +138,8 @@ def _reached(ways, start):
     at = 0
     while at < len(reached):
         more = [there for here, there in ways if here == reached[at]]
-        reached.extend(sorted({there for there in more if there not in reached}))
+        new = sorted({there for there in more if there not in reached})
+        reached.extend(new)
         at += 1
     return reached
 
@@ -154,10 +157,10 @@ def _least_and_way(table, rim, leaning):
 
 
 def _can_be_least(table, rim, place, ends):
-    """Whether one comes from the place to all places, and from the rim to all rims, along ties that lean to these ends.
+    """Whether one comes to all places from the place, and to all rims from the rim, if ties lean to these ends.
 
-    The other ties, behind them, can be walked and crossed both ways. So this is sure only if there
-    are none, but it is true of all beginnings of what is wanted.
+    The other ties, which come behind, can be walked and crossed both ways. So a yes is sure only where
+    there are none of them; but all that a wanted leaning begins with gets one.
     """
     ties = table.web.ties
     leans = list(zip(ties, ends)) + [(tie, end) for tie in ties[len(ends):] for end in tie]

@@ -4,7 +4,7 @@ from owedround.base.tables import need_table
 from owedround.base.webs import need_place, need_tied, reached_along, tie_of
 from owedround.errors import InvalidOperation
 from owedround.lean.broken import broken_alike, is_broken
-from owedround.owe.debts import Debts, made_debts, need_debts, need_equal_webs, need_total
+from owedround.owe.debts import Debts, need_debts, need_equal_webs, need_total
 from owedround.tree.joining import need_tree
 
 
@@ -94,5 +94,5 @@ def _left_without(debts, tie, place):
     if reached_along([other for other in web.ties if other != tie], place) != web.places:
         return None
     amounts = {other: debts[other] - 1 if other == place else debts[other] for other in web.places}
-    rest = made_debts(web.without_tie(a, b), amounts)
+    rest = Debts(web.without_tie(a, b), amounts)
     return rest if is_broken(rest) else None
