@@ -6,7 +6,7 @@ from owedround.owe.debts import Debts, are_alike
 from owedround.tree.joining import each_tree, is_joining_tree, need_few_trees
 from owedround.turn.hands import acted
 from owedround.turn.rides import turning_debts
-from owedround.turn.tours import toured
+from owedround.turn.tours import leads_round
 
 MAX_TREES = 1000
 
@@ -67,7 +67,7 @@ def is_disagreement(table, value):
     home, tree, debts = value
     if home not in table.web.places or not _fit(table.web, tree, debts):
         return False
-    return acted(table, home, tree, debts) != toured(table, home, tree, debts)
+    return not leads_round(table, home, tree, debts, acted(table, home, tree, debts))
 
 
 def unturned_ring(table):

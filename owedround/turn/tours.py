@@ -4,7 +4,7 @@ from owedround.base.tables import need_table
 from owedround.base.webs import need_place, need_tied, reached_along, tie_of
 from owedround.errors import InvalidOperation
 from owedround.lean.broken import broken_alike, is_broken
-from owedround.owe.debts import Debts, need_debts, need_equal_webs, need_total
+from owedround.owe.debts import Debts, are_alike, need_debts, need_equal_webs, need_total
 from owedround.tree.joining import need_tree
 
 
@@ -71,6 +71,14 @@ def toured(table, home, tree, debts):
     neighbour = table.web.neighbours(home)[0]
     told = broken_by(table, tree, home, neighbour)
     return tree_by(table, broken_alike(told + debts), home, neighbour)
+
+
+def leads_round(table, home, tree, debts, other):
+    """Whether debts of total 0 lead the tree to the other one by going round from the home."""
+    # This takes much less than to look for the tree to which they lead.
+    neighbour = table.web.neighbours(home)[0]
+    wanted = broken_by(table, tree, home, neighbour) + debts
+    return are_alike(broken_by(table, other, home, neighbour), wanted)
 
 
 def _pair_behind(table, tree, pair):
