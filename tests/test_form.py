@@ -53,6 +53,19 @@ def is_builtin(name):
     return name != "_" and hasattr(builtins, name)
 
 
+def is_told_text(node):
+    """Whether what a row returns is one of the five forms of a text."""
+    if isinstance(node, ast.JoinedStr):
+        return True
+    if isinstance(node, ast.Constant):
+        return isinstance(node.value, str)
+    if not isinstance(node, ast.Call):
+        return False
+    if isinstance(node.func, ast.Name):
+        return node.func.id in ("str", "repr")
+    return node.func.attr == "join" and isinstance(node.func.value, ast.Constant)
+
+
 class Form(unittest.TestCase):
     def each_node(self, *kinds):
         for path in files():
@@ -139,6 +152,23 @@ class Form(unittest.TestCase):
                 if isinstance(one, ast.Call) and isinstance(one.func, ast.Name):
                     fitting += one.func.id in generators
         self.assertEqual(used, fitting)
+
+    def test_texts_are_told_in_one_of_five_forms(self):
+        # [L28]: a text, an f-string, str(..), repr(..) or the join of a written text.
+        found = 0
+        for path, node in self.each_node(ast.FunctionDef):
+            if node.name in ("__str__", "__repr__"):
+                for told in [one.value for one in ast.walk(node) if isinstance(one, ast.Return)]:
+                    self.assertTrue(is_told_text(told), (path, told.lineno))
+                    found += 1
+        self.assertEqual(found, 4)
+
+    def test_lengths_are_told_by_len(self):
+        for path, node in self.each_node(ast.FunctionDef):
+            if node.name == "__len__":
+                for told in [one.value for one in ast.walk(node) if isinstance(one, ast.Return)]:
+                    self.assertIsInstance(told, ast.Call, (path, node.lineno))
+                    self.assertEqual(ast.unparse(told.func), "len", (path, node.lineno))
 
     def test_barred_words_and_signs(self):
         for path, node in self.each_node(ast.Name, ast.Attribute, ast.Constant):

@@ -81,12 +81,12 @@ class Table:
     def behind(self, place, neighbour):
         """The neighbour of a place behind a neighbour."""
         need_tied(self._web, place, neighbour)
-        return _next_in(self._rounds[place], neighbour)
+        return next_in(self._rounds[place], neighbour)
 
     def ahead(self, place, neighbour):
         """The neighbour of a place ahead of a neighbour."""
         need_tied(self._web, place, neighbour)
-        return _next_in(self._rounds[place][::-1], neighbour)
+        return next_in(self._rounds[place][::-1], neighbour)
 
     def rim_along(self, place, neighbour):
         """The rim on which one goes from a place to a neighbour."""
@@ -200,6 +200,11 @@ def need_drawing(table):
         raise InvalidDrawing("this table is no drawing")
 
 
+def next_in(row, name):
+    """The name behind another one in a row that is closed to a round."""
+    return row[(row.index(name) + 1) % len(row)]
+
+
 def _need_ring_of_drawing(table, ring):
     """Refuses what are not a drawing and a ring of its web."""
     need_drawing(table)
@@ -275,12 +280,7 @@ def _walk_round(rounds, first):
 def _next_step(rounds, step):
     """The step by which a walk along a rim goes on."""
     place, neighbour = step
-    return (neighbour, _next_in(rounds[neighbour], place))
-
-
-def _next_in(row, name):
-    """The name behind another one in a row that is closed to a round."""
-    return row[(row.index(name) + 1) % len(row)]
+    return (neighbour, next_in(rounds[neighbour], place))
 
 
 def _put_behind(row, name, new):

@@ -207,7 +207,7 @@ def is_tie(value):
 
 def tie_of(a, b):
     """The tie of two places, whichever of them comes first."""
-    return (min(a, b), max(a, b))
+    return (a, b) if a < b else (b, a)
 
 
 def steps_round(row):

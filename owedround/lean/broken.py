@@ -3,7 +3,7 @@
 from owedround.base.webs import is_place_set, need_place, need_web, reached_along, tie_of
 from owedround.base.words import has_just_keys
 from owedround.errors import InvalidOperation
-from owedround.lean.leanings import crowded, debts_of, leaning_with, trails_from
+from owedround.lean.leanings import crowded, debts_of, fitted, leaning_by, steps_turned, trails_from, wanted_by
 from owedround.lean.ways import led_leaning
 from owedround.owe.debts import Debts, need_debts, need_total
 from owedround.tree.joining import is_joining_tree, need_few_trees
@@ -14,18 +14,20 @@ MAX_TREES = 1000
 def is_broken(debts):
     """Whether there is a breaking of the debts."""
     need_debts(debts)
-    return debts.total == debts.web.spare and lacking(debts) is None
+    return led_steps(debts, debts.web.places[0]) is not None
 
 
 def breaking(debts):
     """Any breaking of the debts, None if there is none."""
-    if not is_broken(debts):
-        return None
+    need_debts(debts)
     web = debts.web
     home = web.places[0]
-    leaning = broken_leaning(debts, home)
-    before = trails_from(web, leaning, home)
+    steps = led_steps(debts, home)
+    if steps is None:
+        return None
+    before = trails_from(steps, home)
     tree = tuple(sorted([tie_of(place, before[place]) for place in web.places if place != home]))
+    leaning = leaning_by(web, steps)
     return (tree, {tie: leaning[tie] for tie in web.ties if tie not in tree})
 
 
@@ -94,10 +96,34 @@ def broken_leaning(debts, place):
     """Any leaning that is led from the place and whose debts are these ones less one at the place."""
     need_debts(debts)
     need_place(debts.web, place)
-    if not is_broken(debts):
+    return leaning_by(debts.web, need_led_steps(debts, place))
+
+
+def led_steps(debts, place):
+    """The steps along any leaning that is led from the place and whose debts are these ones less one at the place.
+
+    None if the debts are not broken.
+    """
+    web = debts.web
+    if debts.total != web.spare:
+        return None
+    wanted = wanted_by(debts)
+    wanted[place] -= 1
+    back, _ = fitted(web, wanted)
+    if back is None:
+        return None
+    # One leaning tells it for all with these debts: if one comes to some places only, no tie leans from
+    # these to the others, so in each of them no more ties lean to the others than there are among those.
+    steps = steps_turned(back)
+    return steps if len(trails_from(steps, place)) == len(web.places) else None
+
+
+def need_led_steps(debts, place):
+    """These steps; debts that are not broken are refused."""
+    steps = led_steps(debts, place)
+    if steps is None:
         raise InvalidOperation("these debts are not broken")
-    # Each leaning with these debts is led from the place, so any one will do.
-    return leaning_with(debts - Debts.at(debts.web, place))
+    return steps
 
 
 def _lacks(debts, places):

@@ -37,7 +37,7 @@ def is_led(web, leaning, place):
     """Whether one comes along the leaning from the place to each other one."""
     need_leaning(web, leaning)
     need_place(web, place)
-    return len(trails_from(web, leaning, place)) == len(web.places)
+    return len(trails_from(steps_along(web, leaning), place)) == len(web.places)
 
 
 def is_ringless(web, leaning):
@@ -81,14 +81,16 @@ def is_leaning_order(web, leaning, value):
 def leaning_with(debts):
     """Any leaning with these debts, None if there is none."""
     need_debts(debts)
-    leaning, _ = _fitted(debts)
-    return leaning if debts.total == debts.web.spare - 1 else None
+    back, _ = fitted(debts.web, wanted_by(debts))
+    if back is None or debts.total != debts.web.spare - 1:
+        return None
+    return leaning_by(debts.web, steps_turned(back))
 
 
 def crowded(debts):
     """Any crowded set of the debts, one that hangs together; None if there is none."""
     need_debts(debts)
-    _, places = _fitted(debts)
+    _, places = fitted(debts.web, wanted_by(debts))
     return places
 
 
@@ -131,8 +133,30 @@ def turned_over(web, leaning, ties):
     return {tie: _other_end(tie, leaning[tie]) if tie in ties else leaning[tie] for tie in web.ties}
 
 
-def trails_from(web, leaning, place):
-    """The dict from the places to which one comes along the leaning to the places before them.
+def steps_along(web, leaning):
+    """The dict from the places to the lists of the places to which ties lean from them."""
+    steps = {place: [] for place in web.places}
+    for tie in web.ties:
+        steps[_other_end(tie, leaning[tie])].append(leaning[tie])
+    return steps
+
+
+def steps_turned(steps):
+    """The steps of the opposite leaning."""
+    turned_steps = {place: [] for place in steps}
+    for place in steps:
+        for other in steps[place]:
+            turned_steps[other].append(place)
+    return turned_steps
+
+
+def leaning_by(web, steps):
+    """The leaning with these steps."""
+    return {(a, b): b if b in steps[a] else a for a, b in web.ties}
+
+
+def trails_from(steps, place):
+    """The dict from the places to which one comes by steps to the places before them.
 
     The place from which one goes is among them, with None.
     """
@@ -140,21 +164,66 @@ def trails_from(web, leaning, place):
     todo = [place]
     while todo:
         here = todo.pop()
-        for other in web.neighbours(here):
-            if leaning[tie_of(here, other)] == other and other not in before:
+        for other in steps[here]:
+            if other not in before:
                 before[other] = here
                 todo.append(other)
     return before
 
 
-def trail_ties(before, place):
-    """The ties along which one comes to a place, by the dict of the places before."""
-    ties = []
+def turn_step(steps, place, other):
+    """Lets a step from a place to another one lead back."""
+    steps[place].remove(other)
+    steps[other].append(place)
+
+
+def turn_trail(steps, before, place):
+    """Lets the steps by which one comes to a place, by the dict of the places before, lead back."""
     here = place
     while before[here] is not None:
-        ties.append(tie_of(before[here], here))
+        turn_step(steps, before[here], here)
         here = before[here]
-    return ties
+
+
+def begun(web, wanted):
+    """The steps back along a leaning, and how many more ties are wanted to lean to each place.
+
+    Each tie leans to that end that wants more when its turn comes: so little is left to be done.
+    """
+    left = {place: wanted[place] for place in web.places}
+    back = {place: [] for place in web.places}
+    for a, b in web.ties:
+        end, other = (a, b) if left[a] >= left[b] else (b, a)
+        back[end].append(other)
+        left[end] -= 1
+    return (back, left)
+
+
+def fitted(web, wanted):
+    """The steps back along a leaning in which not more ties lean to any place than wanted, or else a crowded set.
+
+    The other one of the pair is None. A set is crowded if there are more ties between its places than
+    these want together.
+    """
+    back, left = begun(web, wanted)
+    full = [place for place in web.places if left[place] < 0]
+    while full:
+        before = trails_from(back, full[0])
+        short = [place for place in web.places if left[place] > 0 and place in before]
+        if not short:
+            # No tie leans to these places from others, and still too many lean to them. They hang
+            # together, as one comes from each one to the first one along ties.
+            return (None, tuple(sorted(before)))
+        turn_trail(back, before, short[0])
+        left[full[0]] += 1
+        left[short[0]] -= 1
+        full = [place for place in web.places if left[place] < 0]
+    return (back, None)
+
+
+def wanted_by(debts):
+    """How many ties lean to each place in a leaning with these debts."""
+    return {place: number + 1 for place, number in debts}
 
 
 def _other_end(tie, place):
@@ -184,24 +253,3 @@ def _is_cut(web, leaning, value):
     if not is_place_set(web, value) or not 1 <= len(value) < len(web.places):
         return False
     return all([leaning[tie] in value for tie in web.ties_across(value)])
-
-
-def _fitted(debts):
-    """A leaning in which not too many ties lean to any place, or else a crowded set.
-
-    The other one of the pair is None. Too many are more than the place has, and one.
-    """
-    web = debts.web
-    leaning = {tie: tie[0] for tie in web.ties}
-    many = debts_of(web, leaning) - debts
-    while (-many).owing:
-        full = (-many).owing[0]
-        before = trails_from(web, opposite(web, leaning), full)
-        short = [place for place in many.owing if place in before]
-        if not short:
-            # No tie leans to these places from others, and still too many lean to them. They hang
-            # together, as one comes to each one along ties from the first one.
-            return (None, tuple(sorted(before)))
-        leaning = turned_over(web, leaning, trail_ties(before, short[0]))
-        many = many.moved(full, short[0])
-    return (leaning, None)

@@ -2,8 +2,8 @@
 
 from owedround.base.rings import ring_ties
 from owedround.base.webs import need_place
-from owedround.lean.leanings import debts_of, is_turn, need_leaning, opposite, ring_of
-from owedround.lean.leanings import trail_ties, trails_from, turned, turned_over
+from owedround.lean.leanings import begun, debts_of, is_turn, leaning_by, need_leaning, ring_of, steps_along
+from owedround.lean.leanings import steps_turned, trails_from, turn_step, turn_trail, turned, wanted_by
 from owedround.owe.burning import reduced
 from owedround.owe.debts import need_debts, need_total, plan_between
 
@@ -11,24 +11,21 @@ from owedround.owe.debts import need_debts, need_total, plan_between
 def leaning_alike(debts):
     """Any leaning whose debts are alike to these."""
     _need_total_of_leanings(debts)
-    web = debts.web
-    back = {tie: tie[0] for tie in web.ties}
-    many = debts_of(web, opposite(web, back)) - reduced(debts, web.places[0])
-    # The debts of the leaning are more than the wanted ones by these numbers. Turned cuts do not
-    # change this: they change the wanted debts, too, into alike ones.
-    while many.owing:
-        full, short = (-many).owing[0], many.owing[0]
-        back = _led_by_cuts(web, back, full)
-        back = turned_over(web, back, trail_ties(trails_from(web, back, full), short))
-        many = many.moved(full, short)
-    return opposite(web, back)
+    return leaning_by(debts.web, _steps_alike(debts))
 
 
 def led_leaning(debts, place):
     """Any leaning whose debts are alike to these, and that is led from the place."""
     _need_total_of_leanings(debts)
     need_place(debts.web, place)
-    return _led_by_cuts(debts.web, leaning_alike(debts), place)
+    return leaning_by(debts.web, led_steps_alike(debts, place))
+
+
+def led_steps_alike(debts, place):
+    """The steps along such a leaning."""
+    steps = _steps_alike(debts)
+    _lead_by_cuts(steps, place)
+    return steps
 
 
 def way_between(web, one, other):
@@ -63,12 +60,12 @@ def is_way(web, one, other, value):
 def choice_of(web, leaning):
     """The pair of "ringless" or "leaned" and any such leaning with alike debts."""
     ring = ring_of(web, leaning)
+    steps = steps_along(web, leaning)
+    if ring is not None:
+        # No cut turns a tie of the ring: so one comes to each place, those of the ring among them.
+        _lead_by_cuts(steps, ring[0])
     # What is returned is never the very dict that was passed.
-    own = turned_over(web, leaning, ())
-    if ring is None:
-        return ("ringless", own)
-    # No cut turns a tie of the ring: so one comes to each place, those of the ring among them.
-    return ("leaned", _led_by_cuts(web, own, ring[0]))
+    return ("ringless" if ring is None else "leaned", leaning_by(web, steps))
 
 
 def ring_along(leaning, ties):
@@ -87,14 +84,32 @@ def _need_total_of_leanings(debts):
     need_total(debts, debts.web.spare - 1)
 
 
-def _led_by_cuts(web, leaning, place):
-    """The leaning that is led from the place to which turned cuts lead."""
-    reached = sorted(trails_from(web, leaning, place))
-    while len(reached) < len(web.places):
-        # All ties to other places lean into these ones: so behind the turn one comes to some more.
-        leaning = turned_over(web, leaning, web.ties_across(tuple(reached)))
-        reached = sorted(trails_from(web, leaning, place))
-    return leaning
+def _steps_alike(debts):
+    """The steps along any leaning whose debts are alike to these."""
+    web = debts.web
+    # Turned cuts make the debts of the leaning and the wanted ones alike to what they were, in the
+    # same way: so they leave the gap between them as it is.
+    back, left = begun(web, wanted_by(reduced(debts, web.places[0])))
+    full = [place for place in web.places if left[place] < 0]
+    while full:
+        short = [place for place in web.places if left[place] > 0]
+        turn_trail(back, _lead_by_cuts(back, full[0]), short[0])
+        left[full[0]] += 1
+        left[short[0]] -= 1
+        full = [place for place in web.places if left[place] < 0]
+    return steps_turned(back)
+
+
+def _lead_by_cuts(steps, place):
+    """Turns cuts until one comes by steps from the place to each other one, and returns these trails."""
+    before = trails_from(steps, place)
+    while len(before) < len(steps):
+        # All steps between these places and others lead to these: so behind the turn one comes to some more.
+        across = [(a, b) for a in steps if a not in before for b in steps[a] if b in before]
+        for a, b in across:
+            turn_step(steps, a, b)
+        before = trails_from(steps, place)
+    return before
 
 
 def _at_least(plan, many):

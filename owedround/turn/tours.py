@@ -1,9 +1,10 @@
 """Tours round joining trees, and the broken debts that they make of them."""
 
-from owedround.base.tables import need_table
-from owedround.base.webs import need_place, need_tied, reached_along, tie_of
-from owedround.errors import InvalidOperation
-from owedround.lean.broken import broken_alike, is_broken
+from owedround.base.tables import need_table, next_in
+from owedround.base.webs import need_place, need_tied, tie_of
+from owedround.lean.broken import need_led_steps
+from owedround.lean.leanings import trails_from, turn_step, turn_trail
+from owedround.lean.ways import led_steps_alike
 from owedround.owe.debts import Debts, are_alike, need_debts, need_equal_webs, need_total
 from owedround.tree.joining import need_tree
 
@@ -13,11 +14,13 @@ def tour(table, tree, place, neighbour):
     need_table(table)
     need_tree(table.web, tree)
     need_tied(table.web, place, neighbour)
+    rounds = table.rounds
     pairs = [(place, neighbour)]
-    pair = _pair_behind(table, tree, pairs[0])
+    pair = _pair_behind(rounds, place, neighbour, tie_of(place, neighbour) in tree)
     while pair != pairs[0]:
         pairs.append(pair)
-        pair = _pair_behind(table, tree, pair)
+        here, other = pair
+        pair = _pair_behind(rounds, here, other, tie_of(here, other) in tree)
     return tuple(pairs)
 
 
@@ -43,21 +46,7 @@ def tree_by(table, debts, place, neighbour):
     need_debts(debts)
     need_equal_webs(table.web, debts.web)
     need_tied(table.web, place, neighbour)
-    if not is_broken(debts):
-        raise InvalidOperation("these debts are not broken")
-    tree, left = (), debts
-    pair = (place, neighbour)
-    for _ in range(2 * len(table.web.ties)):
-        tie = tie_of(pair[0], pair[1])
-        # When a tie is met again, it is in the tree, or not in the web that is left any more.
-        if tie in left.web.ties and tie not in tree:
-            rest = _left_without(left, tie, pair[0])
-            if rest is None:
-                tree = tree + (tie,)
-            else:
-                left = rest
-        pair = _pair_behind(table, tree, pair)
-    return tuple(sorted(tree))
+    return _tree_round(table, need_led_steps(debts, place), place, neighbour)
 
 
 def toured(table, home, tree, debts):
@@ -69,38 +58,60 @@ def toured(table, home, tree, debts):
     need_equal_webs(table.web, debts.web)
     need_total(debts, 0)
     neighbour = table.web.neighbours(home)[0]
-    told = broken_by(table, tree, home, neighbour)
-    return tree_by(table, broken_alike(told + debts), home, neighbour)
+    wanted = broken_by(table, tree, home, neighbour) + debts - Debts.at(table.web, home)
+    return _tree_round(table, led_steps_alike(wanted, home), home, neighbour)
 
 
 def leads_round(table, home, tree, debts, other):
     """Whether debts of total 0 lead the tree to the other one by going round from the home."""
-    # This takes much less than to look for the tree to which they lead.
+    # This takes less than to look for the tree to which they lead.
     neighbour = table.web.neighbours(home)[0]
     wanted = broken_by(table, tree, home, neighbour) + debts
     return are_alike(broken_by(table, other, home, neighbour), wanted)
 
 
-def _pair_behind(table, tree, pair):
-    """The pair that comes behind another one."""
-    place, neighbour = pair
-    if tie_of(place, neighbour) in tree:
-        return (neighbour, table.behind(neighbour, place))
-    return (place, table.behind(place, neighbour))
+def _pair_behind(rounds, place, neighbour, joins):
+    """The pair that comes behind another one, whose tie is one of the tree, or is not."""
+    if joins:
+        return (neighbour, next_in(rounds[neighbour], place))
+    return (place, next_in(rounds[place], neighbour))
 
 
-def _left_without(debts, tie, place):
-    """The broken debts of the web without a tie that gave one to the place, None if there are none.
+def _tree_round(table, steps, place, neighbour):
+    """The joining tree whose broken debts, made from there, are those of a leaning with one more at the place.
 
-    Let the tie, of a web from which all ties off the tree that were met before are taken, be met
-    first at the place. If it is off the tree, there are such debts. If it is in the tree, the other
-    ties across the cut that it closes give one to the far side: so the side of the place would have
-    less than its spare number.
+    The leaning is led from the place; the steps are those along it, and are changed on the way.
     """
-    web = debts.web
-    a, b = tie
-    if reached_along([other for other in web.ties if other != tie], place) != web.places:
-        return None
-    amounts = {other: debts[other] - 1 if other == place else debts[other] for other in web.places}
-    rest = Debts(web.without_tie(a, b), amounts)
-    return rest if is_broken(rest) else None
+    rounds = table.rounds
+    joins = {}
+    here, other = place, neighbour
+    # At each pair the steps are those of the web without the ties that were found to be off the tree.
+    # They come from here to each place, and their leaning has the debts that these ties left, less
+    # one here. Such debts are broken [9.4].
+    for _ in range(2 * len(table.web.ties)):
+        tie = tie_of(here, other)
+        if tie not in joins:
+            joins[tie] = not _leaves_out(steps, here, other)
+        if joins[tie]:
+            # It leans from here: it is on no ring when it is met first, and when it is met again, no
+            # other tie between the places on its two sides is left. So now one comes from its other end.
+            turn_step(steps, here, other)
+        here, other = _pair_behind(rounds, here, other, joins[tie])
+    return tuple([tie for tie in table.web.ties if joins[tie]])
+
+
+def _leaves_out(steps, here, other):
+    """Leaves a tie that is met first at a place out of the steps, if it is off the tree; whether it is.
+
+    It is off the tree if the debts stay broken when it is taken away with the one that it gave to this
+    place; otherwise the other ties of the cut that it closes give one to the far side, and the near side
+    would lack. They stay broken exactly if the tie leans to this place in some leaning with the same
+    debts, as one comes to each place without it then. Such leanings differ by turned rings only.
+    """
+    before = trails_from(steps, other)
+    if here not in before:
+        return False
+    # This trail is the tie itself, or makes a ring with it. Without the tie both turns are the same.
+    turn_trail(steps, before, here)
+    steps[here].remove(other)
+    return True

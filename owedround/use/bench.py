@@ -242,10 +242,10 @@ class Bench:
         return isinstance(other, Bench) and self._now == other._now
 
     def __str__(self):
-        return (
-            f"bench of {len(self.web)} places, {len(self.web.ties)} ties, "
-            + f"home {self.home}, total {self.debts.total}, {len(self.pledges)} pledges"
-        )
+        return "".join((
+            f"bench of {len(self.web)} places, {len(self.web.ties)} ties, ",
+            f"home {self.home}, total {self.debts.total}, {len(self.pledges)} pledges",
+        ))
 
     def _has_pledge(self, value):
         """Whether the value is a pledge of the bench."""
