@@ -22,6 +22,15 @@ NINE = Web.of_ties(*[(a, b) for a, b in zip("abcdefgh", "bcdefghi")])
 FULLEST = Web.of_ties(
     *[tuple(sorted(("abcdefghi"[k], "abcdefghi"[(k + step) % 9]))) for k in range(9) for step in (1, 2)]
 )
+FULL_FIVE = full_web(tuple("abcde"))
+# The webs for which busy ties are counted for many tables and starts, with 8 to 130 joining trees.
+COUNTED = (
+    KITE,
+    FULL_FIVE.without_tie("a", "b").without_tie("c", "d"),
+    Web.of_ties(*[tie for tie in SIX if tie not in (("a", "b"), ("a", "f"), *zip("bcde", "cdef"))]),
+    FULL_FIVE,
+    Web.of_ties(*[tie for tie in SIX if tie not in list(zip("abcde", "bcdef"))]),
+)
 WEBS = (RING, KITE, FOUR, PAIR, TAIL, LINE, DUMBBELL, SIX, NINE, FULLEST)
 SMALL = (PAIR, RING, KITE, FOUR, TAIL, LINE, DUMBBELL)
 # Names whose order is not that of their lengths, and a place in the middle of all ties.

@@ -12,8 +12,8 @@ from owedround.turn.busy import busy_counts, inner_busy, levels, outer_busy, tol
 from cases import ErrorCase
 from oracles import cut_by_trial, has_ring, is_reduced_by_sets, leanings_of, met_by_hand, numbers_of
 from oracles import reached_by_marks, ring_by_trial, starts_of, trees_by_trial
-from samples import ALL_STRANGE, CROSS, DUMBBELL, FLAT, FOUR, FULLEST, KITE, LINE, NINE, NO_PLACES, ODD, PAIR, RING
-from samples import SIX, STAR, TABLES, TAIL, TOUCH, TWIST, WHEEL, joined, rings_by_trial, tables_of
+from samples import ALL_STRANGE, COUNTED, CROSS, DUMBBELL, FLAT, FOUR, FULLEST, KITE, LINE, NINE, NO_PLACES, ODD, PAIR
+from samples import RING, SIX, STAR, TABLES, TAIL, TOUCH, TWIST, WHEEL, joined, rings_by_trial, tables_of
 from test_hands import some_trees
 
 SIXTY = 10 ** 60 - 1
@@ -141,7 +141,7 @@ class Told(ErrorCase):
         }
 
     def test_the_points_of_the_table(self):
-        for web in SMALL:
+        for web in SMALL + COUNTED[1:]:
             counts = busy_counts(Table.plain(web), web.places[0], web.neighbours(web.places[0])[0])
             for (x, y), many in self.told_by_counting(web).items():
                 self.assertEqual(told_at(counts, x, y), many, (str(web), x, y))
@@ -175,7 +175,7 @@ class Told(ErrorCase):
 
 class Levels(ErrorCase):
     def test_against_reduced_debts_and_busy_ties(self):
-        for web in (PAIR, RING, KITE, FOUR, TAIL, LINE, DUMBBELL):
+        for web in (PAIR, RING, KITE, FOUR, TAIL, LINE, DUMBBELL) + COUNTED[1:]:
             counts = busy_counts(Table.plain(web), "a", web.neighbours("a")[0])
             for place in web.places:
                 told = levels(web, place)

@@ -5,7 +5,6 @@ import time
 import unittest
 
 from owedround.base.tables import Table
-from owedround.base.webs import full_web
 from owedround.errors import InvalidOperation
 from owedround.lean.broken import broken_alike, broken_leaning, breaking, is_breaking, is_broken, lacking
 from owedround.lean.leanings import debts_of, is_led
@@ -14,9 +13,8 @@ from owedround.tree.joining import count_trees, each_tree
 from owedround.turn.tours import broken_by, toured, tree_by
 from cases import ErrorCase
 from oracles import met_by_hand, sets_of, starts_of
-from samples import FLAT, FULLEST, SIX, TWIST, debts_with_total, joined, tables_of
+from samples import FLAT, FULL_FIVE, FULLEST, SIX, TWIST, debts_with_total, joined, tables_of
 
-FULL_FIVE = full_web(tuple("abcde"))
 # All ties but two, which have no place in common, or have one.
 FIVE = FULL_FIVE.without_tie("a", "d").without_tie("b", "e")
 SKEW = FULL_FIVE.without_tie("a", "b").without_tie("a", "c")

@@ -7,7 +7,7 @@ from owedround.base.words import is_count, is_integer
 from owedround.errors import InvalidNumber, InvalidOperation
 from owedround.lean.broken import MAX_TREES
 from owedround.owe.burning import each_reduced
-from owedround.tree.joining import cut_closed, each_tree, need_few_trees, ring_closed
+from owedround.tree.joining import cut_closed, need_few_trees, ring_closed
 from owedround.turn.tours import first_met
 
 
@@ -31,12 +31,12 @@ def busy_counts(table, place, neighbour):
     web = table.web
     need_tied(web, place, neighbour)
     need_few_trees(web, MAX_TREES)
-    pairs = []
-    for tree in each_tree(web):
-        inner = inner_busy(table, tree, place, neighbour)
-        outer = outer_busy(table, tree, place, neighbour)
-        pairs.append((len(inner), len(outer)))
-    return {pair: pairs.count(pair) for pair in sorted(set(pairs))}
+    # The numbers belong to the web, whatever the table and the start are [14.2]. None of them is as great
+    # as the base: so they are the digits of the sum [14.3] for two powers of the base.
+    base = MAX_TREES + 1
+    width = web.spare + 1
+    digits = _digits(_sum_by_sets(web, _power(base, width), base), base)
+    return {divmod(at, width): many for at, many in enumerate(digits) if many > 0}
 
 
 def told_at(counts, x, y):
@@ -61,6 +61,56 @@ def levels(web, place):
 def _met_first(met, ties):
     """The first one of all ties, as they are met, that is among these."""
     return [tie for tie in met if tie in ties][0]
+
+
+def _sum_by_sets(web, x, y):
+    """The sum [14.3] over the joining trees of a web for x and y."""
+    # It is also one over all sets of ties: of x - 1 to the power of the pieces but one into which the places
+    # fall, times y - 1 to the power of the ties that the set has more than its pieces need. In that one the
+    # places can be left out from the last one on. A place without ties of the set is a piece of its own.
+    # Each other one is drawn into the first place to which it has such ties; so its further ones are ties of
+    # that place, with all choices of one or more of the k ties between both counting y ** 0 + .. + y ** (k - 1).
+    choices = [0]
+    for _ in web.ties:
+        choices.append(choices[-1] * y + 1)
+    sums = {_rows_of(web): 1}
+    for _ in web.places[1:]:
+        fewer = {}
+        # Often the same ties are left between the places ahead, in whichever way: they go on together.
+        for rows, number in sums.items():
+            rest, last = rows[:-1], rows[-1]
+            fewer[rest] = fewer.get(rest, 0) + (x - 1) * number
+            for at, many in enumerate(last):
+                if many > 0:
+                    drawn = _drawn_into(rest, last, at)
+                    fewer[drawn] = fewer.get(drawn, 0) + choices[many] * number
+        sums = fewer
+    # The first place is left, which has none ahead of it.
+    return sums[((),)]
+
+
+def _rows_of(web):
+    """The tuple that has for each place the tuple of the numbers of its ties to the places ahead of it."""
+    ties = web.ties
+    places = web.places
+    return tuple([tuple([1 if (a, b) in ties else 0 for a in places[:at]]) for at, b in enumerate(places)])
+
+
+def _drawn_into(rows, last, at):
+    """The rows of the places but the last one, whose ties to those behind a place are ties of that place now."""
+    behind = at + 1
+    later = [row[:at] + (row[at] + many,) + row[behind:] for row, many in zip(rows[behind:], last[behind:])]
+    return rows[:behind] + tuple(later)
+
+
+def _digits(number, base):
+    """The list of the digits of a number, the lowest one first."""
+    digits = []
+    left = number
+    while left > 0:
+        left, digit = divmod(left, base)
+        digits.append(digit)
+    return digits
 
 
 def _are_counts(value):
